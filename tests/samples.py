@@ -1,0 +1,146 @@
+"""Trees and texts that several tests use."""
+
+EXAMPLE = """\
+asker clerk guest ;
+group team ;
+thing paper ;
+badge auditor ;
+tag gold on team ;
+flag inside ;
+action view edit ;
+duty log ;
+tie in from clerk guest team to team ;
+tie keeps from clerk team to paper ;
+tie wears from clerk team to auditor ;
+walk sees = in* keeps ;
+walk gilt = in* in[gold] in* keeps ;
+let p1 rank 5 clerk may view on paper when by sees to thing due log ;
+bar p2 rank 7 clerk may view on paper when not ask is inside and not by gilt to thing ;
+"""
+
+STEP = ("step", "in", ())
+
+# A line of each of the eighteen kinds, its text, and in front of the text nothing else that a line may need.
+LINES = [
+    (("asker", ("clerk", "guest")), "asker clerk guest ;"),
+    (("group", ("team", "box")), "group team box ;"),
+    (("thing", ("paper",)), "thing paper ;"),
+    (("badge", ("auditor",)), "badge auditor ;"),
+    (("tag", "gold", ("clerk", "team")), "tag gold on clerk team ;"),
+    (("number", "level", ("clerk", "paper")), "number level on clerk paper ;"),
+    (("flag", ("inside",)), "flag inside ;"),
+    (("asked", ("amount",)), "asked amount ;"),
+    (("action", ("view", "copy")), "action view copy ;"),
+    (("duty", ("log",)), "duty log ;"),
+    (("tie", "keeps", ("clerk", "team"), ("paper", "auditor")), "tie keeps from clerk team to paper auditor ;"),
+    (("never", "in", (("gold", True),), (("gold", False), ("old", True))), "never in [ gold ] to [ - gold old ] ;"),
+    (("never", "in", (), ()), "never in [ ] to [ ] ;"),
+    (("walk", "sees", ("then", ("star", STEP), ("step", "keeps", ()))), "walk sees = in * keeps ;"),
+    (("walk", "t", ("table", ((0, ("in", "team", ("gold", "old")), 39), (39, ("keeps", "paper", ()), 1)), 1)),
+     "walk t = table 0 in team [ gold old ] 39 | 39 keeps paper [ ] 1 final 1 ;"),
+    (("walk", "t", ("table", (), None)), "walk t = table final - ;"),
+    (("when", "calm", ("flag", "inside")), "when calm = ask is inside ;"),
+    (("role", "reader", ("view", "copy")), "role reader = view copy ;"),
+    (("gate", "in", "admit", "hallkey"), "gate in by admit on hallkey ;"),
+    (("gate", "node", "admit", "hallkey"), "gate node by admit on hallkey ;"),
+    (("gate", "tag", "admit", "hallkey"), "gate tag by admit on hallkey ;"),
+    (("gate", "rule", "admit", "hallkey"), "gate rule by admit on hallkey ;"),
+    (("let", "p1", 5, ("clerk",), ("view", "@reader"), ("paper",), ("walk", "sees", "thing"), ("log",)),
+     "let p1 rank 5 clerk may view @ reader on paper when by sees to thing due log ;"),
+    (("let", "p1", 0, ("clerk", "guest"), ("view",), ("paper", "memo"), ("always",), ()),
+     "let p1 rank 0 clerk guest may view on paper memo when always ;"),
+    (("bar", "p2", 99, ("clerk",), ("view",), ("paper",), ("not", ("flag", "inside")), ()),
+     "bar p2 rank 99 clerk may view on paper when not ask is inside ;"),
+]
+
+# Walks and their texts.
+A = ("step", "a", ())
+B = ("step", "b", ())
+C = ("step", "c", ())
+WALKS = [
+    (A, "a"),
+    (("step", "any", ()), "any"),
+    (("step", "a", (("x", True), ("y", False))), "a [ x - y ]"),
+    (("step", "any", (("x", False),)), "any [ - x ]"),
+    (("named", "w"), "@ w"),
+    (("then", A, B), "a b"),
+    (("then", ("then", A, B), C), "a b c"),
+    (("then", A, ("then", B, C)), "a ( b c )"),
+    (("or", A, B), "a | b"),
+    (("or", ("or", A, B), C), "a | b | c"),
+    (("or", A, ("or", B, C)), "a | ( b | c )"),
+    (("or", ("then", A, B), C), "a b | c"),
+    (("or", A, ("then", B, C)), "a | b c"),
+    (("then", ("or", A, B), C), "( a | b ) c"),
+    (("then", A, ("or", B, C)), "a ( b | c )"),
+    (("star", A), "a *"),
+    (("plus", A), "a +"),
+    (("maybe", A), "a ?"),
+    (("upto", A, 4), "a { 4 }"),
+    (("star", ("plus", ("maybe", ("upto", A, 1)))), "a { 1 } ? + *"),
+    (("star", ("then", A, B)), "( a b ) *"),
+    (("upto", ("or", A, B), 2), "( a | b ) { 2 }"),
+    (("then", A, ("star", B)), "a b *"),
+    (("then", ("star", A), B), "a * b"),
+    (("star", ("named", "w")), "@ w *"),
+    (("maybe", ("step", "a", (("x", True),))), "a [ x ] ?"),
+]
+
+# Conditions and their texts.
+F = ("flag", "f")
+G = ("flag", "g")
+H = ("flag", "h")
+CONDS = [
+    (("always",), "always"),
+    (("tag", "asker", "gold"), "asker is gold"),
+    (("tag", "thing", "gold"), "thing is gold"),
+    (F, "ask is f"),
+    (("walk", "w", "thing"), "by w to thing"),
+    (("walk", "w", "auditor"), "by w to auditor"),
+    (("named", "calm"), "@ calm"),
+    (("atmost", "asker.level", "thing.level", 0), "asker . level <= thing . level"),
+    (("atmost", "ask.amount", "now", 3), "ask . amount <= now + 3"),
+    (("atmost", "0", "thing.level", -3), "0 <= thing . level - 3"),
+    (("atmost", "now", "0", 9999), "now <= 0 + 9999"),
+    (("atmost", "0", "ask.amount", -9999), "0 <= ask . amount - 9999"),
+    (("not", F), "not ask is f"),
+    (("not", ("not", F)), "not not ask is f"),
+    (("and", F, G), "ask is f and ask is g"),
+    (("and", ("and", F, G), H), "ask is f and ask is g and ask is h"),
+    (("and", F, ("and", G, H)), "ask is f and ( ask is g and ask is h )"),
+    (("or", F, G), "ask is f or ask is g"),
+    (("or", ("or", F, G), H), "ask is f or ask is g or ask is h"),
+    (("or", F, ("or", G, H)), "ask is f or ( ask is g or ask is h )"),
+    (("or", ("and", F, G), H), "ask is f and ask is g or ask is h"),
+    (("or", F, ("and", G, H)), "ask is f or ask is g and ask is h"),
+    (("and", ("or", F, G), H), "( ask is f or ask is g ) and ask is h"),
+    (("and", F, ("or", G, H)), "ask is f and ( ask is g or ask is h )"),
+    (("not", ("and", F, G)), "not ( ask is f and ask is g )"),
+    (("not", ("or", F, G)), "not ( ask is f or ask is g )"),
+    (("and", ("not", F), G), "not ask is f and ask is g"),
+    (("and", F, ("not", G)), "ask is f and not ask is g"),
+    (("or", ("not", F), ("not", G)), "not ask is f or not ask is g"),
+]
+
+
+def walk_line(walk):
+    """A line with a walk."""
+    return ("walk", "x", walk)
+
+
+def when_line(cond):
+    """A line with a condition."""
+    return ("when", "x", cond)
+
+
+def policy(word="let", name="p", rank=1, askers=("clerk",), actions=("view",), things=("paper",),
+           cond=("always",), duties=()):
+    """A policy."""
+    return (word, name, rank, askers, actions, things, cond, duties)
+
+
+def chained(part, deep, *, word="not"):
+    """A part within a word with one part, so many deep in all."""
+    for _ in range(deep - 1):
+        part = (word, part)
+    return part

@@ -1,0 +1,58 @@
+"""The interface: names, arguments, and the files in which things are defined."""
+
+import importlib
+import inspect
+import unittest
+
+FUNCTIONS = {
+    "trees.is_tree": ["tree"],
+    "tokens.tokens_of": ["text"],
+    "reading.read": ["text"],
+    "writing.write": ["tree"],
+    "writing.write_walk": ["walk"],
+    "writing.write_cond": ["cond"],
+    "faults.faults": ["tree"],
+    "flatten.flat": ["tree"],
+    "letters.letters": ["book", "standing"],
+    "letters.is_word": ["book", "kind", "end", "word"],
+    "worlds.world_of": ["book", "nodes", "links", "numbers"],
+    "worlds.is_world": ["book", "world"],
+    "worlds.row_of": ["world", "node", "tie"],
+}
+CLASSES = {
+    "books.Book": {"__init__": ["tree"], "atoms": ["frame"], "policies": ["frame"], "written": ["walk"],
+                   "written_cond": ["cond"]},
+}
+
+
+def found(path):
+    module, name = path.split(".")
+    return getattr(importlib.import_module(f"leaveledger.{module}"), name)
+
+
+class InterfaceTest(unittest.TestCase):
+    def test_functions(self):
+        for path, arguments in FUNCTIONS.items():
+            function = found(path)
+            self.assertEqual(function.__module__, "leaveledger." + path.split(".")[0])
+            self.assertEqual(list(inspect.signature(function).parameters), arguments)
+
+    def test_defaults(self):
+        defaults = {}
+        for path in FUNCTIONS:
+            for name, parameter in inspect.signature(found(path)).parameters.items():
+                if parameter.default is not inspect.Parameter.empty:
+                    defaults[path, name] = parameter.default
+        self.assertEqual(defaults, {("worlds.world_of", "numbers"): ()})
+
+    def test_classes(self):
+        for path, methods in CLASSES.items():
+            made = found(path)
+            self.assertEqual(made.__module__, "leaveledger." + path.split(".")[0])
+            for name, arguments in methods.items():
+                self.assertIn(name, vars(made))
+                self.assertEqual(list(inspect.signature(vars(made)[name]).parameters), ["self", *arguments])
+
+
+if __name__ == "__main__":
+    unittest.main()
