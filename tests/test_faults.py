@@ -42,7 +42,8 @@ class FaultsTest(unittest.TestCase):
         self.assertEqual(faults(read(EXAMPLE)), ())
         self.assertEqual(len(read(PLAN)), MANY)
         self.check("")
-        self.check(f"never in [gold] to [-gold] ; gate in by view on k ; gate rule by copy on k ; {LET} by chart to thing "
+        self.check(f"never in [gold] to [-gold] ; gate in by view on k ; gate node by view on k ; "
+                   f"gate tag by copy on k ; gate rule by copy on k ; {LET} by chart to thing "
                    "or @calm and asker.level <= ask.amount and thing is fine due log ;")
 
     def test_twice(self):
@@ -111,13 +112,13 @@ class FaultsTest(unittest.TestCase):
         self.check("walk w = none; walk w = table final 0; walk v = @w;", (0, ("unknown", "none")), (1, ("twice", "w")))
 
     def test_order_in_a_line(self):
-        self.check("let sees rank 1 none clerk may @nay view @view on nil when asker is no and by x to y or z.a".replace(
-            "z.a", "asker.a <= thing.b and ask.c <= now and @d") + " due e log;",
-            *[(0, fault) for fault in (
-                ("twice", "sees"), ("unknown", "none"), ("unknown", "nay"), ("wrong", "view"), ("unknown", "nil"),
-                ("unknown", "no"), ("unknown", "x"), ("unknown", "y"), ("unknown", "a"), ("unknown", "b"), ("unknown", "c"),
-                ("unknown", "d"), ("unknown", "e"),
-            )])
+        self.check("let sees rank 1 none clerk may @nay view @view on nil when asker is no and by x to y or "
+                   "asker.a <= thing.b and ask.c <= now and @d due e log;",
+                   *[(0, fault) for fault in (
+                       ("twice", "sees"), ("unknown", "none"), ("unknown", "nay"), ("wrong", "view"),
+                       ("unknown", "nil"), ("unknown", "no"), ("unknown", "x"), ("unknown", "y"), ("unknown", "a"),
+                       ("unknown", "b"), ("unknown", "c"), ("unknown", "d"), ("unknown", "e"),
+                   )])
         self.check("tie sees from paper none to guest auditor;", (0, ("twice", "sees")), (0, ("wrong", "paper")),
                    (0, ("unknown", "none")), (0, ("wrong", "guest")))
         self.check("walk x = (a[b -c] | @d)* any[e] in{2} f;", *[(0, ("unknown", name)) for name in "abcdef"])
@@ -154,6 +155,7 @@ class FaultsTest(unittest.TestCase):
         self.check(head + "when x = @s and @s;")
         self.check(head + "when x = @s and @s and always;", (3, ("long", "x")))
         self.check(head + "when x = @s and @s and ask is inside;", (3, ("long", "x")))
+        self.check(head + "bar p rank 1 clerk may view on paper when @s and @s and always;", (3, ("long", "p")))
         self.check(head + f"{LET} @s and not @s;")
         self.check(head + f"{LET} @s and not @s and always;", (3, ("long", "p")))
         nots = "not " * 11
@@ -199,6 +201,8 @@ class FaultsTest(unittest.TestCase):
         self.check(f"{LET} {self.eight('now', 9)};", (0, ("many", "p")))
         both = f"{LET} {self.eight('now', 5)}; bar q rank 1 clerk may %s on paper when {self.eight('0', 4)};"
         self.check(both % "view", (1, ("many", "q")))
+        self.check(both.replace("let p", "bar p") % "view", (1, ("many", "q")))
+        self.check(both.replace("bar q", "let q") % "view", (1, ("many", "q")))
         self.check(both % "copy")
         self.check(both % "copy view", (1, ("many", "q")))
         self.check(both % "@reader", (1, ("many", "q")))

@@ -64,7 +64,6 @@ class LettersTest(unittest.TestCase):
         self.assertEqual(letters(book, ("guest", ())), groups)
 
     def test_after_askers(self):
-        # No `never` line speaks of askers, not even one that every group passes.
         self.check(("clerk", ()), TEAMS + BOXES + KEEPS)
         self.check(("guest", ()), [("holds", end, marks) for _, end, marks in BOXES] + [("holds", "paper", ())])
 
@@ -75,6 +74,19 @@ class LettersTest(unittest.TestCase):
         self.check(("team", ("gold", "old")), gold + KEEPS)
         not_old = [letter for letter in TEAMS + BOXES if "old" not in letter[2]]
         self.check(("team", ("old",)), not_old + KEEPS)
+
+    def test_never_is_about_groups_alone(self):
+        plan = "asker a; group g; thing p; badge b; tag t on g; tie i from a g to g p b;"
+        book = Book(read(plan + "never i [-t] to [t];"))
+        ends = [("i", "b", ()), ("i", "p", ())]
+        self.assertEqual(letters(book, ("a", ())), tuple(sorted([("i", "g", ()), ("i", "g", ("t",)), *ends])))
+        self.assertEqual(letters(book, ("g", ())), tuple(sorted([("i", "g", ()), *ends])))
+        self.assertEqual(letters(book, ("g", ("t",))), letters(book, ("a", ())))
+        book = Book(read(plan + "never i [] to [];"))
+        self.assertEqual(len(letters(book, ("a", ()))), 4)
+        self.assertEqual(letters(book, ("g", ())), tuple(ends))
+        self.assertTrue(is_word(book, "a", "p", (("i", "g", ()), ("i", "p", ()))))
+        self.assertFalse(is_word(book, "a", "p", (("i", "g", ()), ("i", "g", ()), ("i", "p", ()))))
 
     def test_never_without_tests(self):
         for marks in marks_of("box"):
@@ -149,6 +161,11 @@ class WordsTest(unittest.TestCase):
         self.check(False, "clerk", "paper", TEAMS[3], BOXES[1], KEEPS[1])
         self.check(False, "clerk", "paper", BOXES[0], ("up", "box", ("red",)), KEEPS[1])
         self.check(False, "clerk", "paper", *[TEAMS[0]] * 500, TEAMS[1], TEAMS[0], KEEPS[1])
+
+    def test_only_from_askers_to_things_and_badges(self):
+        self.check(False, "team", "paper", KEEPS[1])
+        self.check(False, "paper", "paper", KEEPS[1])
+        self.check(False, "clerk", "team", TEAMS[0])
 
     def test_letters_that_are_none(self):
         for marks in (("old", "gold"), ("gold", "gold"), ("red",), ("fine",), ("paper",), ["gold"], "gold", None, True, 0,

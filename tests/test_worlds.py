@@ -45,7 +45,8 @@ LINKS = (
 NUMBERS = (("ana", "level", 3), ("sheet", "level", 9999), ("sheet", "size", 0))
 WORLD = (NODES, LINKS, NUMBERS)
 JUNK = (None, True, False, 0, 1, -99999, "", "ana", (), [], ("ana",), ("ana", "clerk"), ((), (), ()), (1, 2, 3), {},
-        (("ana",), "clerk", ()), ("ana", ("clerk",), ()), ("ana", "clerk", (), ()), (None, None, None))
+        (("ana",), "clerk", ()), ("ana", ("clerk",), ()), ("ana", "clerk", (), ()), (None, None, None),
+        (["ana"], "clerk", ()), ("ana", ["clerk"], ()), ("ana", "clerk", [[]]), ("ana", "clerk", ([],)))
 
 
 def clerks(many):
@@ -89,11 +90,11 @@ class WorldOfTest(unittest.TestCase):
             node = (name, "guest", ())
             self.assertEqual(world_of(BOOK, [node], []), ((node,), (), ()))
         for name in ("", "abcdefghi", "zz", "zz00", "zz1000", "zza", "thing", "any", "0a", "A", "auditor", "boss", None, 1,
-                     True, ("a",)):
+                     True, ("a",), ["a"]):
             self.bad((name, "guest", ()), [BLUE, (name, "guest", ()), BLUE])
 
     def test_kinds_of_nodes(self):
-        for kind in ("auditor", "gold", "in", "level", "look", "p", "nothing", "asker", "", None, 0, ("clerk",)):
+        for kind in ("auditor", "gold", "in", "level", "look", "p", "nothing", "asker", "", None, 0, ("clerk",), ["clerk"]):
             self.bad(("x", kind, ()), [("x", kind, ())])
 
     def test_tags_of_nodes(self):
@@ -124,6 +125,7 @@ class WorldOfTest(unittest.TestCase):
             ("ana", "in", "team"), ("clerk", "in", "red"), ("ana", "any", "red"), ("ana", "gold", "red"),
             ("ana", "in", ""), ("", "in", "red"), ("ana", "in", None), (None, "in", "red"), ("ana", None, "red"),
             ("ana", "in", ("red",)), (("ana",), "in", "red"), ("ana", ("in",), "red"), ("ana", "in", True),
+            (["ana"], "in", "red"), ("ana", ["in"], "red"), ("ana", "in", ["red"]),
         ):
             self.bad(link, NODES, [LINKS[0], link, LINKS[0]])
 
@@ -133,6 +135,11 @@ class WorldOfTest(unittest.TestCase):
             self.bad(link, NODES, [link])
         # What is never for groups is not for askers, though Ana has the tag.
         self.assertEqual(len(world_of(BOOK, NODES, [("ana", "in", "blue")])[1]), 1)
+        book = Book(read("asker a; group g; thing p; tag t on g; tie i from a g to g p; never i [] to [];"))
+        nodes = [("x", "a", ()), ("y", "g", ("t",)), ("z", "p", ())]
+        self.assertEqual(len(world_of(book, nodes, [("x", "i", "y"), ("x", "i", "z"), ("y", "i", "z")])[1]), 3)
+        with self.assertRaises(BadWorld):
+            world_of(book, nodes, [("y", "i", "y")])
 
     def test_link_twice(self):
         self.bad(LINKS[0], NODES, [LINKS[0], LINKS[1], LINKS[0]])
@@ -146,6 +153,7 @@ class WorldOfTest(unittest.TestCase):
             ("ana", "level", None), ("ana", "level", "3"), ("ana", "level", (3,)), ("ana", "size", 1), ("bob", "level", 1),
             ("red", "level", 1), ("note", "level", 1), ("none", "level", 1), ("ana", "none", 1), ("ana", "gold", 1),
             ("auditor", "level", 1), (None, "level", 1), ("ana", None, 1), (("ana",), "level", 1),
+            (["ana"], "level", 1), ("ana", ["level"], 1), ("ana", "level", [1]),
         ):
             self.bad(row, NODES, LINKS, [row])
             self.bad(row, NODES, LINKS, [NUMBERS[0], row, NUMBERS[0]])
