@@ -4,7 +4,7 @@ from leaveledger.errors import BadTree, NotLet
 from leaveledger.faults import faults
 from leaveledger.flatten import flat
 from leaveledger.meanings import Meanings
-from leaveledger.policies import atoms_of, frames_of, is_of_frame, merged
+from leaveledger.policies import atoms_of, frames_of, merged, policies_in, policies_of
 from leaveledger.trees import is_tree
 
 UNPLANNED = ("walk", "when", "role", "gate", "let", "bar")
@@ -28,14 +28,13 @@ class Book:
     def atoms(self, frame):
         """The tuple of the atoms of a frame."""
         found = []
-        for policy in policies_in(self.flattened):
-            if is_of_frame(policy, frame):
-                found = merged(found, atoms_of(policy[6]))
+        for policy in policies_of(self.flattened, frame):
+            found = merged(found, atoms_of(policy[6]))
         return tuple(found)
 
     def policies(self, frame):
         """The tuple of the names of a frame's policies."""
-        return tuple([policy[1] for policy in policies_in(self.flattened) if is_of_frame(policy, frame)])
+        return tuple([policy[1] for policy in policies_of(self.flattened, frame)])
 
     def written(self, walk):
         """A walk written out."""
@@ -44,11 +43,6 @@ class Book:
     def written_cond(self, cond):
         """A condition written out."""
         return self.meanings.written_cond(cond)
-
-
-def policies_in(tree):
-    """The policies of a tree, in order."""
-    return [line for line in tree if line[0] in ("let", "bar")]
 
 
 def frames_in(tree):

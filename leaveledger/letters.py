@@ -5,7 +5,11 @@ from leaveledger.plans import Plan
 
 def letters(book, standing):
     """The ascending tuple of the letters that are allowed after a standing."""
-    plan = Plan(book.plan)
+    return letters_after(Plan(book.plan), standing)
+
+
+def letters_after(plan, standing):
+    """The same for the plan of a book."""
     found = []
     for tie, row in plan.ties.items():
         for end in row[1]:

@@ -1,4 +1,4 @@
-"""What the plan of a book tells of kinds, badges, tags, numbers and ties."""
+"""What the plan of a book tells of kinds, badges, tags, numbers, ties and asks."""
 
 
 class Plan:
@@ -6,6 +6,7 @@ class Plan:
 
     def __init__(self, lines):
         self.sorts = {}
+        self.lists = {}
         self.tags = {}
         self.numbers = {}
         self.ties = {}
@@ -19,6 +20,8 @@ class Plan:
         if word in ("asker", "group", "thing", "badge"):
             for name in line[1]:
                 self.sorts[name] = word
+        elif word in ("flag", "asked", "action"):
+            self.lists[word] = (*self.listed(word), *line[1])
         elif word == "tag":
             for kind in line[2]:
                 self.tags[kind] = (*self.tags_of(kind), line[1])
@@ -33,6 +36,10 @@ class Plan:
     def sort_of(self, name):
         """The word of the line that declares a kind or a badge; an empty string for another name."""
         return self.sorts.get(name, "")
+
+    def listed(self, word):
+        """The names that the lines with the word `flag`, `asked` or `action` declare, in order."""
+        return self.lists.get(word, ())
 
     def tags_of(self, kind):
         """The tags that a kind can have."""

@@ -7,10 +7,15 @@ def frames_of(policy):
     return [(asker, action, thing) for asker in askers for action in actions for thing in things]
 
 
-def is_of_frame(policy, frame):
-    """Whether a policy whose actions are written out is one of a frame."""
+def policies_in(tree):
+    """The policies of a tree, in order."""
+    return [line for line in tree if line[0] in ("let", "bar")]
+
+
+def policies_of(tree, frame):
+    """The policies of a flat tree that are of a frame, in order."""
     asker, action, thing = frame
-    return asker in policy[3] and action in policy[4] and thing in policy[5]
+    return [line for line in policies_in(tree) if asker in line[3] and action in line[4] and thing in line[5]]
 
 
 def atoms_of(cond):

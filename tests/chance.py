@@ -1,4 +1,8 @@
-"""Trees made by chance, always the same ones for the same seed."""
+"""Trees, walks and worlds made by chance, always the same ones for the same seed."""
+
+from leaveledger.errors import BadWorld
+from leaveledger.trees import is_tree
+from leaveledger.worlds import world_of
 
 NAMES = ("a", "b", "c1", "in", "keeps", "gold", "abcdefgh", "x9")
 TERMS = ("now", "0", "asker.level", "thing.level", "ask.amount")
@@ -75,3 +79,115 @@ def line(chance, deep):
 
 def tree(chance, deep):
     return tuple(line(chance, deep) for _ in range(chance.randint(0, 8)))
+
+
+def fitting_walk(chance, deep, ties, tags, walks=()):
+    """An expression with these ties and tags in steps, that is nested at most so deep."""
+    if deep == 1 or chance.random() < 0.2:
+        if walks and chance.random() < 0.2:
+            return ("named", chance.choice(walks))
+        picked = chance.sample(tags, chance.choice((0, 0, 0, 1, min(2, len(tags)))))
+        return ("step", chance.choice((*ties, "any")), tuple((tag, chance.random() < 0.5) for tag in picked))
+    word = chance.choice(("then", "then", "or", "or", "star", "plus", "maybe", "upto"))
+    first = fitting_walk(chance, deep - 1, ties, tags, walks)
+    if word in ("then", "or"):
+        return (word, first, fitting_walk(chance, deep - 1, ties, tags, walks))
+    return (word, first, chance.randint(1, 3)) if word == "upto" else (word, first)
+
+
+def fitting_table(chance, signs, places, moves):
+    """A table with so many moves by these letters between the first places."""
+    rows = [(chance.randrange(places), chance.choice(signs), chance.randrange(places)) for _ in range(moves)]
+    return ("table", tuple(rows), chance.choice((None, *range(places), *range(places))))
+
+
+def world(chance, book, nodes, links):
+    """A world with these nodes, and of so many links tried those that it can have."""
+    ties = [line[1] for line in book.plan if line[0] == "tie"]
+    names = [row[0] for row in nodes]
+    ends = names + [name for line in book.plan if line[0] == "badge" for name in line[1]]
+    numbers = [row[:2] + (chance.randint(0, 9),) for row in world_of(book, nodes, ())[2]]
+    found = {}
+    for _ in range(links):
+        link = (chance.choice(names), chance.choice(ties), chance.choice(ends))
+        try:
+            world_of(book, nodes, [link])
+            found[link] = True
+        except BadWorld:
+            pass
+    return world_of(book, nodes, list(found), numbers)
+
+
+def strings_in(part):
+    """All strings in a nested tuple, from left to right."""
+    if isinstance(part, tuple):
+        return [found for inner in part for found in strings_in(inner)]
+    return [part] if isinstance(part, str) else []
+
+
+def with_string(part, at, other):
+    """A nested tuple in which the string of this number is another one."""
+    if isinstance(part, str):
+        return other if at == 0 else part
+    if not isinstance(part, tuple):
+        return part
+    found = []
+    for inner in part:
+        found.append(with_string(inner, at, other))
+        at -= len(strings_in(inner))
+    return tuple(found)
+
+
+def disturbed(chance, tree, times):
+    """A tree in which so many times lines change places, are left out or put twice, or a name is another one."""
+    lines = list(tree)
+    for _ in range(times):
+        first, second = chance.randrange(len(lines)), chance.randrange(len(lines))
+        turn = chance.random()
+        if turn < 0.2:
+            lines[first], lines[second] = lines[second], lines[first]
+        elif turn < 0.3 and len(lines) > 1:
+            del lines[first]
+        elif turn < 0.4:
+            lines.insert(second, lines[first])
+        else:
+            line = with_string(lines[first], chance.randrange(len(strings_in(lines[first]))), chance.choice(strings_in(tree)))
+            lines[first] = line if is_tree((line,)) else lines[first]
+    return tuple(lines)
+
+
+def fitting_cond(chance, deep, atoms, names):
+    """A condition of these atoms and names of conditions, that is nested at most so deep."""
+    if deep == 1 or chance.random() < 0.15:
+        return ("named", chance.choice(names)) if names and chance.random() < 0.4 else chance.choice(atoms)
+    word = chance.choice(("and", "or", "not", "and", "or"))
+    return (word, *[fitting_cond(chance, deep - 1, atoms, names) for _ in range(1 if word == "not" else 2)])
+
+
+def in_words(chance, part, words, most):
+    """A walk or a condition within at most so many words that have one part."""
+    for _ in range(chance.randint(0, most)):
+        word = chance.choice(words)
+        part = (word, part, chance.randint(1, 4)) if word == "upto" else (word, part)
+    return part
+
+
+def with_lines(chance, plan, ties, tags, walk, atoms):
+    """A plan's lines, and behind them walks, conditions and policies, some of them long, some of a name twice."""
+    lines, walks, conds = list(plan), [walk], []
+    for _ in range(chance.randint(2, 12)):
+        name = f"n{chance.randint(0, 20)}"
+        word = chance.choice(("walk", "when", "let", "bar"))
+        if word == "walk":
+            part = fitting_walk(chance, chance.randint(1, 4), ties, tags, walks[-3:])
+            lines.append((word, name, in_words(chance, part, ("star", "plus", "maybe", "upto"), 6)))
+            walks.append(name)
+            atoms = (*atoms, ("walk", name, "thing"))
+        elif word == "when":
+            lines.append((word, name, in_words(chance, fitting_cond(chance, chance.randint(1, 4), atoms, conds[-3:]), ("not",), 7)))
+            conds.append(name)
+        else:
+            part = fitting_cond(chance, chance.randint(1, 5), atoms, conds[-3:])
+            kinds, actions = chance.choice((("clerk",), ("clerk", "guest"))), chance.choice((("view",), ("copy", "view")))
+            lines.append((word, name, 5, kinds, actions, ("paper",), in_words(chance, part, ("not",), 4), ()))
+    return tuple(lines)

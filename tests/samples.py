@@ -18,6 +18,49 @@ let p1 rank 5 clerk may view on paper when by sees to thing due log ;
 bar p2 rank 7 clerk may view on paper when not ask is inside and not by gilt to thing ;
 """
 
+# A book with several of everything, flags, asked numbers and actions also on lines that stand apart.
+TOWN = """\
+asker clerk guest ;
+group team box ;
+thing paper memo ;
+badge auditor boss ;
+tag gold on team clerk ;
+tag old on team box paper ;
+tag fine on clerk paper ;
+number level on clerk guest paper ;
+number size on paper memo ;
+flag inside late ;
+asked amount ;
+flag third ;
+asked sum ;
+action view copy ;
+duty log tell ring ;
+tie in from clerk guest team to team box ;
+tie keeps from clerk team to paper memo auditor ;
+tie tops from box guest to box boss paper ;
+never in [gold] to [-gold] ;
+never tops [old] to [] ;
+walk sees = in* keeps ;
+walk gilt = in* in[gold] in* keeps ;
+walk far = (in | tops){3} any[-old] ;
+walk chart = table 1 keeps paper [] 2 | 0 in team [] 0 | 0 in team [gold] 1 | 1 keeps paper [] 2 final 2 ;
+walk boxed = any+ ;
+when calm = ask is inside and not ask is late ;
+when high = asker.level <= ask.amount + 2 or @calm ;
+role both = copy view ;
+action edit ;
+let p1 rank 5 clerk guest may @both on paper when by sees to thing due log tell ;
+let p2 rank 7 clerk may view on paper memo when @high and by gilt to thing due ring log ;
+bar p3 rank 7 clerk guest may view edit on paper when ask is third and asker.level <= 0 + 3 ;
+let p4 rank 7 clerk may copy on paper when by far to thing and thing.size <= now due tell ;
+bar p5 rank 5 guest may view on paper memo when not @calm ;
+bar p6 rank 9 clerk may copy on paper when by chart to thing and by boxed to boss and ask.sum <= 0 + 4 ;
+let p7 rank 0 clerk guest may view edit on paper memo when always ;
+bar p8 rank 9 clerk may edit on paper when asker is gold and thing is old or by sees to auditor ;
+let p9 rank 7 clerk may view on paper when ask is third or ask is inside due log ring ;
+let p10 rank 5 guest may copy on memo when by boxed to thing or asker.level <= thing.size - 4 ;
+"""
+
 STEP = ("step", "in", ())
 
 # A line of each of the eighteen kinds, its text, and in front of the text nothing else that a line may need.

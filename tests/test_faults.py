@@ -1,11 +1,15 @@
 """The faults of trees [11], [12]."""
 
+import random
 import unittest
 
 from leaveledger.faults import faults
 from leaveledger.reading import read
 from leaveledger.sizes import cond_size, walk_size
-from tests.samples import EXAMPLE
+from leaveledger.trees import is_tree
+from tests import chance as by_chance
+from tests.plainfaults import plain_faults
+from tests.samples import EXAMPLE, TOWN
 
 PLAN = """\
 asker clerk guest ;
@@ -28,6 +32,20 @@ role reader = view ;
 """
 MANY = 17
 LET = "let p rank 1 clerk may view on paper when"
+# A line of each kind that declares this name, and nothing else that would be a fault behind the plan.
+DECLARING = (
+    "asker {};", "group {};", "thing {};", "badge {};", "tag {} on paper;", "number {} on clerk;", "flag {};", "asked {};",
+    "action {};", "duty {};", "tie {} from clerk to team;", "walk {} = in;", "walk {} = table final 0;", "when {} = always;",
+    "role {} = view;", "let {} rank 1 clerk may view on paper when always;",
+    "bar {} rank 1 clerk may view on paper when always;",
+)
+
+
+def joined(text, many):
+    """A condition with so many times another one, nested as little as can be."""
+    if many == 1:
+        return text
+    return f"({joined(text, many // 2)} or {joined(text, many - many // 2)})"
 
 
 class FaultsTest(unittest.TestCase):
@@ -50,13 +68,49 @@ class FaultsTest(unittest.TestCase):
         for name in ("clerk", "team", "paper", "auditor", "gold", "level", "inside", "amount", "view", "log", "in", "sees",
                      "chart", "calm", "reader"):
             twice = (0, ("twice", name))
-            for line in (f"asker {name};", f"duty {name};", f"tag {name} on paper;", f"tie {name} from clerk to team;",
-                         f"walk {name} = in;", f"when {name} = always;", f"role {name} = view;",
-                         f"bar {name} rank 1 clerk may view on paper when always;"):
-                self.check(line, twice)
+            for line in DECLARING:
+                self.check(line.format(name), twice)
         self.check("asker new clerk newer view;", (0, ("twice", "clerk")), (0, ("twice", "view")))
         self.check(f"{LET} always; {LET} always;", (1, ("twice", "p")))
         self.check(f"{LET} always; asker p;", (1, ("twice", "p")))
+
+    def test_twice_by_lines_of_all_kinds(self):
+        for first in DECLARING:
+            self.check(first.format("x"))
+            for second in DECLARING:
+                self.check(first.format("x") + second.format("x"), (1, ("twice", "x")))
+                self.check(first.format("x") + second.format("y") + second.format("x"), (2, ("twice", "x")))
+        self.check("never in [] to []; never in [] to []; gate in by view on k; gate in by view on k;")
+
+    def test_ahead_of_the_line(self):
+        """Each sort of name is unknown in front of its line, and known behind it."""
+        using = {
+            "asker {};": ("tag y on {};", "number y on {};", "tie y from {} to team;",
+                          "let y rank 1 {} may view on paper when always;"),
+            "group {};": ("tag y on {};", "tie y from {} to team;", "tie y from clerk to {};",
+                          "walk y = table 0 in {} [] 0 final 0;"),
+            "thing {};": ("tag y on {};", "number y on {};", "tie y from clerk to {};",
+                          "bar y rank 1 clerk may view on {} when always;"),
+            "badge {};": ("tie y from clerk to {};", "when y = by sees to {};", "walk y = table 0 in {} [] 0 final 0;"),
+            "tag {} on clerk;": ("when y = asker is {};", "when y = thing is {};"),
+            "tag {} on team;": ("walk y = in[{}];", "never in [{}] to [];", "never in [] to [-{}];",
+                                "walk y = table 0 in team [{}] 0 final 0;"),
+            "number {} on clerk;": ("when y = asker.{} <= 0;", "when y = 0 <= thing.{};"),
+            "flag {};": ("when y = ask is {};",), "asked {};": ("when y = ask.{} <= now;",),
+            "action {};": ("role y = {};", "gate node by {} on k;", "let y rank 1 clerk may {} on paper when always;"),
+            "duty {};": ("let y rank 1 clerk may view on paper when always due {};",),
+            "tie {} from clerk to team;": ("never {} [] to [];", "walk y = {};", "gate {} by view on k;",
+                                           "walk y = table 0 {} team [] 0 final 0;"),
+            "walk {} = in;": ("walk y = @{};", "when y = by {} to thing;", "when y = by {} to auditor;"),
+            "walk {} = table final 0;": ("when y = by {} to thing;",),
+            "when {} = always;": ("when y = @{};", "let y rank 1 clerk may view on paper when not @{};"),
+            "role {} = view;": ("let y rank 1 clerk may @{} on paper when always;",),
+        }
+        for line, rows in using.items():
+            for row in rows:
+                self.check(line.format("x") + row.format("x"))
+                self.check(row.format("x") + line.format("x"), (0, ("unknown", "x")))
+                self.check(row.format("x"), (0, ("unknown", "x")))
 
     def test_later_line_does_not_declare(self):
         self.check("asker sees; walk y = @sees;", (0, ("twice", "sees")))
@@ -230,6 +284,50 @@ class FaultsTest(unittest.TestCase):
         self.check("role r = copy; role r = view; let p rank 1 clerk may @r on paper when " + self.eight("now", 5)
                    + "; let q rank 1 clerk may view on paper when " + self.eight("0", 4) + ";", (1, ("twice", "r")))
         self.check("let p rank 1 clerk may @r on paper when always; role r = view;", (0, ("unknown", "r")))
+
+    def test_which_faults_keep_others_from_being_looked_for(self):
+        long_cond = joined("ask is inside", 41)
+        long_one = f"when l = {joined('asker is fine', 20)};"
+        # An earlier fault of the line keeps `long` away, and `long` keeps `unfit` and `many` away.
+        self.check(f"{LET} {long_cond} due none;", (0, ("unknown", "none")))
+        self.check(f"{LET} {long_cond} and thing is gold;", (0, ("long", "p")))
+        self.check(f"{long_one} {LET} @l and @l or always;", (1, ("long", "p")))
+        self.check(f"{long_one} {LET} @l and @l;", *[(1, ("unfit", "fine"))] * 40)
+        self.check(f"{LET} {self.eight('now', 9)} and thing is gold;", (0, ("unfit", "gold")))
+        self.check(f"{LET} {self.eight('now', 9)} and thing is gold due none;", (0, ("unknown", "none")))
+        self.check(f"let calm rank 1 clerk may view on paper when {self.eight('now', 9)};", (0, ("twice", "calm")))
+        # Group tags are counted behind other faults, too.
+        self.check("tag t2 on team; tag t3 on team; tag t4 on none team clerk no;", (2, ("unknown", "none")),
+                   (2, ("unknown", "no")), (2, ("many", "t4")))
+
+    def test_broken_by_a_broken_one(self):
+        head = "walk w = in none; walk v = @w; walk u = @v*; when c = by u to thing; when d = not @c;"
+        first = (0, ("unknown", "none"))
+        self.check(head + f"{LET} @d and thing is gold;", first)
+        self.check(head + f"{LET} by v to thing and {self.eight('now', 9)};", first)
+        self.check(head + f"walk x = @u (in{{4}}){{4}}; when y = @d or {joined('always', 41)};", first)
+        self.check(head + f"{LET} {self.eight('now', 5)} and @d; bar q rank 1 clerk may view on paper when {self.eight('0', 4)};",
+                   first)
+        self.check("walk w = table 0 none team [] 0 final 0; when c = by w to thing and asker is fine; "
+                   f"{LET} @c and thing is gold;", first)
+
+    def test_against_the_plain_meaning(self):
+        chance = random.Random(51)
+        words = set()
+        for _ in range(400):
+            tree = by_chance.disturbed(chance, read(chance.choice((TOWN, EXAMPLE))), chance.randint(1, 4))
+            if is_tree(tree):
+                self.assertEqual(faults(tree), plain_faults(tree), tree)
+                words |= {fault[0] for _, fault in faults(tree)}
+        atoms = [("always",), ("flag", "inside"), ("tag", "asker", "gold"), ("tag", "thing", "fine"),
+                 *[("atmost", "asker.level", "now", gap) for gap in range(6)], ("walk", "sees", "auditor")]
+        for _ in range(600):
+            tree = by_chance.with_lines(chance, read(PLAN), ("in", "keeps"), ("gold",), "sees", tuple(atoms))
+            tree = by_chance.disturbed(chance, tree, chance.choice((0, 0, 0, 1)))
+            if is_tree(tree):
+                self.assertEqual(faults(tree), plain_faults(tree), tree)
+                words |= {fault[0] for _, fault in faults(tree)}
+        self.assertEqual(words, {"twice", "unknown", "wrong", "many", "long", "unfit"})
 
     def test_numbers_of_lines(self):
         tree = read("asker a; asker a; tag t on b; walk w = x; thing a;")

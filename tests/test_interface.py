@@ -4,6 +4,12 @@ import importlib
 import inspect
 import unittest
 
+from leaveledger.books import Book
+from leaveledger.languages import Language
+from leaveledger.places import Places
+from leaveledger.reading import read
+from tests.samples import EXAMPLE
+
 FUNCTIONS = {
     "trees.is_tree": ["tree"],
     "tokens.tokens_of": ["text"],
@@ -18,11 +24,27 @@ FUNCTIONS = {
     "worlds.world_of": ["book", "nodes", "links", "numbers"],
     "worlds.is_world": ["book", "world"],
     "worlds.row_of": ["world", "node", "tie"],
+    "walked.walked": ["book", "world", "walk", "node"],
+    "answers.stands": ["book", "world", "ask", "cond"],
+    "answers.answer": ["book", "world", "ask"],
+    "deeds.done": ["book", "world", "deed"],
+    "machines.machine": ["book", "kind", "walk", "end"],
+    "machines.takes": ["machine", "word"],
 }
 CLASSES = {
     "books.Book": {"__init__": ["tree"], "atoms": ["frame"], "policies": ["frame"], "written": ["walk"],
                    "written_cond": ["cond"]},
+    "places.Places": {"__init__": ["book", "walk"], "__call__": ["at", "letter"]},
+    "languages.Language": {"__init__": ["book", "kind", "walk", "end"], "__contains__": ["word"], "__bool__": [],
+                           "inside": ["other"]},
 }
+# Objects of the classes, and the attributes that they have when they are created.
+BOOK = Book(read(EXAMPLE))
+OBJECTS = [
+    (BOOK, {"tree": tuple, "flattened": tuple, "plan": tuple, "frames": tuple}),
+    (Places(BOOK, ("named", "sees")), {"last": tuple, "size": int}),
+    (Language(BOOK, "clerk", ("named", "sees"), "paper"), {"least": tuple}),
+]
 
 
 def found(path):
@@ -51,7 +73,12 @@ class InterfaceTest(unittest.TestCase):
             self.assertEqual(made.__module__, "leaveledger." + path.split(".")[0])
             for name, arguments in methods.items():
                 self.assertIn(name, vars(made))
-                self.assertEqual(list(inspect.signature(vars(made)[name]).parameters), ["self", *arguments])
+                self.assertEqual(list(inspect.signature(vars(made)[name]).parameters)[1:], arguments)
+
+    def test_attributes(self):
+        for thing, attributes in OBJECTS:
+            for name, kind in attributes.items():
+                self.assertIs(type(getattr(thing, name)), kind, (thing, name))
 
 
 if __name__ == "__main__":

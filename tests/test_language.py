@@ -30,6 +30,9 @@ BARRED_WORDS = set((
     "type typing typing_extensions enum Enum IntEnum StrEnum Flag IntFlag Generic Protocol ABC ABCMeta namedtuple "
     "NamedTuple TypedDict TYPE_CHECKING abstractmethod"
 ).split())
+# A parameter has the name of a function of its file only where the document's interface names both so.
+SAME_NAMES = {("takes", "machine")}
+CHANGING = {"append", "clear", "extend", "insert", "pop", "remove", "reverse", "setdefault", "update", "sort", "add", "discard"}
 SPECIAL = {
     "__init__", "__eq__", "__repr__", "__str__", "__len__", "__enter__", "__exit__", "__call__", "__iter__", "__contains__",
     "__bool__",
@@ -168,7 +171,8 @@ class LanguageTest(unittest.TestCase):
                     self.assertTrue(not node.name.startswith("__") or node.name in SPECIAL, (path, node.name))
                     for name in names_bound(node):
                         self.assertFalse(hasattr(builtins, name), (path, name))
-                        self.assertNotIn(name, imported | classes | functions | BARRED, path)
+                        self.assertNotIn(name, imported | classes | BARRED, path)
+                        self.assertTrue(name not in functions or (node.name, name) in SAME_NAMES, (path, name))
                         self.assertFalse(name.startswith("__"), (path, name))
 
     def test_barred_words(self):
@@ -198,6 +202,8 @@ class LanguageTest(unittest.TestCase):
 
     def test_methods(self):
         own = {node.name for _, node in self.each_node(ast.FunctionDef)}
+        # An attribute is called if it holds an object that can be called.
+        own |= {node.attr for _, node in self.each_node(ast.Attribute) if isinstance(node.ctx, ast.Store)}
         for place, node in self.each_node(ast.Call):
             if isinstance(node.func, ast.Attribute):
                 self.assertTrue(node.func.attr in METHODS or node.func.attr in own or node.func.attr in SPECIAL, place)
@@ -208,6 +214,39 @@ class LanguageTest(unittest.TestCase):
         for place, node in self.each_node(ast.Attribute):
             if isinstance(node.ctx, ast.Load) and node.attr not in METHODS | SPECIAL | methods:
                 self.assertIn(node.attr, assigned, place)
+
+    def test_what_is_iterated_is_not_changed(self):
+        for place, loop in self.each_node(ast.For):
+            gone_over = {ast.unparse(node) for node in ast.walk(loop.iter) if isinstance(node, (ast.Name, ast.Attribute))}
+            for node in [node for row in loop.body for node in ast.walk(row)]:
+                if isinstance(node, ast.Call) and isinstance(node.func, ast.Attribute) and node.func.attr in CHANGING:
+                    self.assertNotIn(ast.unparse(node.func.value), gone_over, place)
+                elif isinstance(node, ast.Subscript) and not isinstance(node.ctx, ast.Load):
+                    self.assertNotIn(ast.unparse(node.value), gone_over, place)
+
+    def test_operators_change_nothing(self):
+        for place, node in self.each_node(ast.ClassDef):
+            for method in node.body:
+                if isinstance(method, ast.FunctionDef) and method.name in ("__contains__", "__bool__"):
+                    rows = [row for row in method.body if not isinstance(row, ast.Expr)]
+                    self.assertEqual([row.__class__ for row in rows], [ast.Return], place)
+
+    def test_sets_are_not_stored(self):
+        """A set stands behind `in`, in `sorted` or `len`, or is kept by a plain local variable."""
+        for path in FILES:
+            tree = parsed(path)
+            free = set()
+            for node in ast.walk(tree):
+                if isinstance(node, ast.Compare):
+                    free |= {id(part) for part in (node.left, *node.comparators)}
+                elif isinstance(node, ast.Call) and isinstance(node.func, ast.Name) and node.func.id in ("sorted", "len"):
+                    free |= {id(part) for part in node.args}
+                elif isinstance(node, ast.Assign) and isinstance(node.targets[0], ast.Name):
+                    free.add(id(node.value))
+            for node in ast.walk(tree):
+                is_call = isinstance(node, ast.Call) and isinstance(node.func, ast.Name) and node.func.id == "set"
+                if is_call or isinstance(node, (ast.Set, ast.SetComp)):
+                    self.assertIn(id(node), free, f"{path.name}:{node.lineno}")
 
     def test_what_is_iterated_at_once(self):
         for path in FILES:

@@ -4,14 +4,20 @@ import copy
 import random
 import unittest
 
+from leaveledger.answers import answer, stands
 from leaveledger.books import Book
+from leaveledger.deeds import done
 from leaveledger.errors import LeaveError
 from leaveledger.faults import faults
 from leaveledger.flatten import flat
+from leaveledger.languages import Language
 from leaveledger.letters import is_word, letters
+from leaveledger.machines import machine, takes
+from leaveledger.places import Places
 from leaveledger.reading import read
 from leaveledger.tokens import tokens_of
 from leaveledger.trees import is_tree
+from leaveledger.walked import walked
 from leaveledger.worlds import is_world, row_of, world_of
 from leaveledger.writing import write, write_cond, write_walk
 from tests import chance as by_chance
@@ -24,6 +30,12 @@ NODES = [("red", "team", ("gold",)), ("ana", "clerk", ()), ("memo", "paper", ())
 LINKS = [("red", "keeps", "memo"), ("ana", "in", "red")]
 WORLD = world_of(BOOK, NODES, LINKS)
 WORD = (("in", "team", ()), ("keeps", "paper", ()))
+ASK = ("ana", "view", "memo", (False,), (), 0)
+SEES, GILT = ("named", "sees"), ("named", "gilt")
+COND = ("or", ("walk", "gilt", "thing"), ("not", ("flag", "inside")))
+TABLE = ("table", ((0, WORD[0], 0), (0, WORD[1], 1), (0, WORD[1], 1)), 1)
+PLACES, OTHER_PLACES = Places(BOOK, GILT), Places(BOOK, TABLE)
+LANGUAGE, OTHER_LANGUAGE = Language(BOOK, "clerk", SEES, "paper"), Language(BOOK, "clerk", TABLE, "paper")
 
 
 def calls():
@@ -37,6 +49,24 @@ def calls():
         (world_of, (BOOK, NODES, LINKS + LINKS)), (world_of, (BOOK, NODES * 30, LINKS)), (is_world, (BOOK, WORLD)),
         (is_world, (OTHER, WORLD)), (row_of, (WORLD, "ana", "in")), (row_of, (WORLD, "memo", "in")),
     ]
+    found += [
+        (walked, (BOOK, WORLD, walk, node)) for walk in (SEES, GILT, TABLE, ("upto", SEES, 2)) for node in ("ana", "red", "memo")
+    ]
+    found += [(stands, (BOOK, WORLD, ask, COND)) for ask in (ASK, ("ana", *ASK[1:3], [True], (), 0))]
+    found += [(answer, (BOOK, WORLD, ask)) for ask in (ASK, ("red", *ASK[1:]), (*ASK[:3], (True,), (), 3))]
+    found += [(done, (BOOK, WORLD, deed)) for deed in (
+        ("node", "bob", "clerk", (), ()), ("node", "ana", "clerk", (), ()), ("drop", "red"), ("link", "ana", "keeps", "memo"),
+        ("cut", "ana", "in", "red"), ("tag", "red", "gold", True), ["drop", "red"],
+    )]
+    for walk in (SEES, GILT, TABLE):
+        found += [(machine, (BOOK, "clerk", walk, "paper")), (takes, (machine(BOOK, "clerk", walk, "paper"), WORD))]
+    for places in (PLACES, OTHER_PLACES):
+        found += [(places.__call__, (at, letter)) for at in ((0,), (0, 1), ()) for letter in WORD]
+    for book in (BOOK, OTHER):
+        found += [(book.atoms, (("clerk", "view", "paper"),)), (book.policies, (("clerk", "view", "paper"),))]
+    found += [(BOOK.written, (GILT,)), (BOOK.written_cond, (COND,))]
+    found += [(LANGUAGE.__contains__, (WORD,)), (LANGUAGE.__bool__, ()), (LANGUAGE.inside, (OTHER_LANGUAGE,)),
+              (OTHER_LANGUAGE.inside, (LANGUAGE,)), (OTHER_LANGUAGE.__contains__, (WORD[:1],))]
     for line, text in LINES:
         found += [(is_tree, ((line,),)), (write, ((line,),)), (read, (text,)), (read, (text[:-1],)), (faults, ((line,),))]
     chance = random.Random(17)
@@ -66,7 +96,7 @@ class SteadyTest(unittest.TestCase):
                 self.assertEqual(outcome(*rows[at]), first[at])
 
     def test_arguments_stay(self):
-        kept = [BOOK, OTHER]
+        kept = [BOOK, OTHER, LANGUAGE, OTHER_LANGUAGE]
         for function, arguments in calls():
             before = [copy.deepcopy(part) for part in arguments if part not in kept]
             outcome(function, arguments)
@@ -79,6 +109,14 @@ class SteadyTest(unittest.TestCase):
         for book, attributes in zip((BOOK, OTHER), before):
             for name in ("tree", "flattened", "plan", "frames"):
                 self.assertEqual(getattr(book, name), attributes[name])
+
+    def test_what_objects_show_stays(self):
+        def shown():
+            return [(places.last, places.size) for places in (PLACES, OTHER_PLACES)] + [LANGUAGE.least, OTHER_LANGUAGE.least]
+        before = copy.deepcopy(shown())
+        for row in calls():
+            outcome(*row)
+        self.assertEqual(shown(), before)
 
     def test_two_books_do_not_share(self):
         self.assertEqual(letters(OTHER, ("clerk", ())), (("in", "paper", ()), ("in", "team", ()), ("in", "team", ("gold",))))

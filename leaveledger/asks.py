@@ -1,0 +1,40 @@
+"""Whether asks fit."""
+
+from leaveledger.errors import BadAsk
+from leaveledger.names import is_worth
+
+PARTS = 6
+
+
+def check_ask(plan, kinds, ask):
+    """Raise BadAsk for the first part of an ask that does not fit; kinds has the kind of each node by its name."""
+    if not isinstance(ask, tuple):
+        raise BadAsk(0)
+    for part in range(PARTS):
+        if part >= len(ask) or not is_fitting(plan, kinds, part, ask[part]):
+            raise BadAsk(part)
+    if len(ask) > PARTS:
+        raise BadAsk(PARTS)
+
+
+def is_fitting(plan, kinds, part, told):
+    """Whether something fits as the part of an ask that has this number."""
+    if part in (0, 2):
+        return is_named(plan, kinds, told, "asker" if part == 0 else "thing")
+    if part == 1:
+        return told in plan.listed("action")
+    if part == 3:
+        return is_row(told, len(plan.listed("flag"))) and all([isinstance(truth, bool) for truth in told])
+    if part == 4:
+        return is_row(told, len(plan.listed("asked"))) and all([is_worth(worth) for worth in told])
+    return is_worth(told)
+
+
+def is_named(plan, kinds, name, sort):
+    """Whether something is the name of a node with a kind of this sort."""
+    return isinstance(name, str) and name in kinds and plan.sort_of(kinds[name]) == sort
+
+
+def is_row(row, many):
+    """Whether something is a tuple with so many parts."""
+    return isinstance(row, tuple) and len(row) == many

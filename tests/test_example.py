@@ -1,0 +1,68 @@
+"""The example [60]: its faults, its frame, its atoms, its machine, and its answers."""
+
+import unittest
+
+from leaveledger.answers import answer, stands
+from leaveledger.books import Book
+from leaveledger.faults import faults
+from leaveledger.languages import Language
+from leaveledger.machines import machine, takes
+from leaveledger.reading import read
+from leaveledger.walked import walked
+from leaveledger.worlds import world_of
+from tests.samples import EXAMPLE
+
+TREE = read(EXAMPLE)
+BOOK = Book(TREE)
+FRAME = ("clerk", "view", "paper")
+IN, KEEPS = ("step", "in", ()), ("step", "keeps", ())
+SEES = ("then", ("star", IN), KEEPS)
+GILT = ("then", ("then", ("then", ("star", IN), ("step", "in", (("gold", True),))), ("star", IN)), KEEPS)
+WORLD = world_of(
+    BOOK,
+    [("ana", "clerk", ()), ("bob", "clerk", ()), ("red", "team", ("gold",)), ("blue", "team", ()), ("memo", "paper", ())],
+    [("ana", "in", "red"), ("bob", "in", "blue"), ("blue", "keeps", "memo"), ("red", "keeps", "memo")],
+)
+
+
+class ExampleTest(unittest.TestCase):
+    def test_faults(self):
+        self.assertEqual(faults(TREE), ())
+
+    def test_frame(self):
+        self.assertEqual(BOOK.frames, (FRAME,))
+        self.assertEqual(BOOK.policies(FRAME), ("p1", "p2"))
+
+    def test_atoms(self):
+        self.assertEqual(BOOK.atoms(FRAME), (("walk", SEES, "thing"), ("flag", "inside"), ("walk", GILT, "thing")))
+
+    def test_machine(self):
+        rows = (((("in", "team", ()), 0), (("in", "team", ("gold",)), 0), (("keeps", "paper", ()), 1)), ())
+        self.assertEqual(machine(BOOK, "clerk", ("named", "sees"), "paper"), (rows, 1))
+        self.assertEqual(machine(BOOK, "clerk", SEES, "paper"), (rows, 1))
+
+    def test_gilt_lies_within_sees(self):
+        sees, gilt = [Language(BOOK, "clerk", ("named", name), "paper") for name in ("sees", "gilt")]
+        self.assertIs(gilt.inside(sees), True)
+        self.assertIs(sees.inside(gilt), False)
+        word = (("keeps", "paper", ()),)
+        self.assertTrue(word in sees and word not in gilt)
+        self.assertIs(takes(sees.least, word), True)
+
+    def test_answers(self):
+        self.assertEqual(answer(BOOK, WORLD, ("ana", "view", "memo", (False,), (), 0)), ("let", 5, ("p1",), ("log",)))
+        self.assertEqual(answer(BOOK, WORLD, ("bob", "view", "memo", (False,), (), 0)), ("bar", 7, ("p2",), ()))
+        self.assertEqual(answer(BOOK, WORLD, ("bob", "view", "memo", (True,), (), 0)), ("let", 5, ("p1",), ("log",)))
+        self.assertEqual(answer(BOOK, WORLD, ("ana", "edit", "memo", (False,), (), 0)), ("none", 0, (), ()))
+
+    def test_atoms_in_the_world(self):
+        truths = {"ana": [True, False, True], "bob": [True, False, False]}
+        for name, expected in truths.items():
+            ask = (name, "view", "memo", (False,), (), 0)
+            self.assertEqual([stands(BOOK, WORLD, ask, atom) for atom in BOOK.atoms(FRAME)], expected)
+            self.assertEqual(walked(BOOK, WORLD, ("named", "sees"), name), ("memo",))
+        self.assertEqual(walked(BOOK, WORLD, ("named", "gilt"), "bob"), ())
+
+
+if __name__ == "__main__":
+    unittest.main()
