@@ -32,9 +32,14 @@ def is_fresh(word):
     return isinstance(word, str) and word.startswith("zz") and is_number(word[2:], 999)
 
 
+def is_integer(number):
+    """Whether something is an integer; True and False are none."""
+    return isinstance(number, int) and not isinstance(number, bool)
+
+
 def is_whole(number, low, high):
-    """Whether something is an integer within bounds; True and False are none."""
-    return isinstance(number, int) and not isinstance(number, bool) and low <= number <= high
+    """Whether something is an integer within bounds."""
+    return is_integer(number) and low <= number <= high
 
 
 def is_worth(number):

@@ -1,5 +1,7 @@
 """The places of a walk: how far a word has been read."""
 
+from leaveledger.forms import is_ascending
+from leaveledger.names import is_whole
 from leaveledger.plans import passes
 
 
@@ -32,6 +34,13 @@ class Places:
                     found.setdefault(place, []).append(after)
             self.ways_by_letter[letter] = found
         return self.ways_by_letter[letter]
+
+
+def is_place_set(places, size):
+    """Whether something is a set of places of a walk of this size."""
+    if not isinstance(places, tuple) or not all([is_whole(place, 0, size) for place in places]):
+        return False
+    return is_ascending(places)
 
 
 def can_read(sign, letter):

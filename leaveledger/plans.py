@@ -49,6 +49,10 @@ class Plan:
         """The numbers that a kind has."""
         return self.numbers.get(kind, ())
 
+    def has_row(self, kind, tie):
+        """Whether links of a tie can lead from nodes of a kind."""
+        return tie in self.ties and kind in self.ties[tie][0]
+
     def nevers_of(self, tie):
         """The pairs of tests of the `never` lines of a tie."""
         return self.nevers.get(tie, ())
@@ -60,6 +64,10 @@ class Plan:
             for tag in sorted(self.tags_of(end)):
                 found = found + [(*marks, tag) for marks in found]
         return found
+
+    def is_standing(self, kind, marks):
+        """Whether something is an asker kind without marks, or a group kind with marks that it can have."""
+        return isinstance(kind, str) and self.sort_of(kind) in ("asker", "group") and marks in self.marks_to(kind)
 
     def allows(self, standing, letter):
         """Whether a letter is allowed after a standing; its marks are such that its end can have them."""

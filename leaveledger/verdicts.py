@@ -17,7 +17,38 @@ def holds(cond, atoms, valuation):
 
 def answer_of(policies, atoms, valuation):
     """The answer that the policies of a frame give, written out, for a truth for each of some atoms."""
-    held = [policy for policy in policies if holds(policy[6], atoms, valuation)]
+    return answer_by([policy for policy in policies if holds(policy[6], atoms, valuation)])
+
+
+def answers_by_valuation(policies, atoms):
+    """The answer for each valuation of some atoms, those with the first atom False first, and so on."""
+    many = 1 << len(atoms)
+    columns = [column_of(policy[6], atoms) for policy in policies]
+    found = []
+    for at in range(many):
+        found.append(answer_by([policy for policy, column in zip(policies, columns) if column >> at & 1]))
+    return found
+
+
+def column_of(cond, atoms):
+    """For each valuation of some atoms a bit that tells whether a condition written out stands."""
+    whole = (1 << (1 << len(atoms))) - 1
+    word = cond[0]
+    if word == "always":
+        return whole
+    if word == "not":
+        return whole ^ column_of(cond[1], atoms)
+    if word == "and":
+        return column_of(cond[1], atoms) & column_of(cond[2], atoms)
+    if word == "or":
+        return column_of(cond[1], atoms) | column_of(cond[2], atoms)
+    # So many valuations in a row have the atom False, and then as many True.
+    run = 1 << (len(atoms) - 1 - atoms.index(cond))
+    return whole // ((1 << run) + 1) << run
+
+
+def answer_by(held):
+    """The answer that policies give that hold."""
     if not held:
         return ("none", 0, (), ())
     rank = max([policy[2] for policy in held])

@@ -14,6 +14,11 @@ def world_of(book, nodes, links, numbers=()):
         raise TooMany("node")
     if len(links) > MOST_LINKS:
         raise TooMany("link")
+    return world_of_any_size(book, nodes, links, numbers)
+
+
+def world_of_any_size(book, nodes, links, numbers):
+    """The same without a limit to how many nodes and links there are."""
     plan = Plan(book.plan)
     nodes_by_name = checked_nodes(plan, nodes)
     links_by_link = checked_links(plan, nodes_by_name, links)
@@ -27,14 +32,20 @@ def world_of(book, nodes, links, numbers=()):
 
 def is_world(book, world):
     """Whether something is a world of a book."""
+    if not is_world_of_any_size(book, world):
+        return False
+    return len(world[0]) <= MOST_NODES and len(world[1]) <= MOST_LINKS
+
+
+def is_world_of_any_size(book, world):
+    """The same without a limit to how many nodes and links there are."""
     if not isinstance(world, tuple) or len(world) != 3:
         return False
     if not all([isinstance(part, tuple) for part in world]):
         return False
-    nodes, links, numbers = world
     try:
-        return world_of(book, nodes, links, numbers) == world
-    except (BadWorld, TooMany):
+        return world_of_any_size(book, *world) == world
+    except BadWorld:
         return False
 
 

@@ -61,6 +61,19 @@ let p9 rank 7 clerk may view on paper when ask is third or ask is inside due log
 let p10 rank 5 guest may copy on memo when by boxed to thing or asker.level <= thing.size - 4 ;
 """
 
+# A small book in which words come soon to all that there is.
+SMALL = """\
+asker clerk ;
+group team box ;
+thing paper ;
+badge boss ;
+tag gold on team ;
+tie in from clerk team to team box ;
+tie keeps from clerk box to paper boss ;
+never in [gold] to [] ;
+walk deep = in{2} keeps ;
+"""
+
 STEP = ("step", "in", ())
 
 # A line of each of the eighteen kinds, its text, and in front of the text nothing else that a line may need.

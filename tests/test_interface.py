@@ -5,6 +5,7 @@ import inspect
 import unittest
 
 from leaveledger.books import Book
+from leaveledger.deciding import Decider
 from leaveledger.languages import Language
 from leaveledger.places import Places
 from leaveledger.reading import read
@@ -30,6 +31,43 @@ FUNCTIONS = {
     "deeds.done": ["book", "world", "deed"],
     "machines.machine": ["book", "kind", "walk", "end"],
     "machines.takes": ["machine", "word"],
+    "parting.path_world": ["book", "kind", "word"],
+    "parting.parting": ["book", "kind", "walk", "other", "end"],
+    "parting.machine_parting": ["machine", "other"],
+    "within.within": ["book", "kind", "walk", "walks", "end"],
+    "within.judge_within": ["book", "kind", "walk", "walks", "end", "table"],
+    "combine.combined": ["book", "kind", "combination", "end"],
+    "combine.table_of": ["machine"],
+    "counting.count_words": ["machine", "n"],
+    "counting.word_at": ["machine", "n", "at"],
+    "counting.place_of": ["machine", "word"],
+    "counting.extent": ["machine"],
+    "counting.always_passed": ["machine"],
+    "counting.words_of": ["machine", "n"],
+    "reach.reached": ["book", "world", "walk", "node"],
+    "reach.steps_to": ["book", "world", "walk", "node", "most"],
+    "shortest.shortest": ["book", "world", "walk", "node", "end"],
+    "back.comers": ["book", "world", "walk", "end"],
+    "shut.shut": ["book", "world", "walk", "node", "end"],
+    "shut.judge_shut": ["book", "world", "walk", "node", "end", "paper"],
+    "maps.judge_map": ["book", "world", "second", "pairs"],
+    "peers.peers": ["book", "world", "second", "first"],
+    "peers.judge_peers": ["book", "world", "second", "first", "table"],
+    "bounds.settle": ["bounds"],
+    "bounds.judge_ring": ["bounds", "ring"],
+    "follows.opposite": ["bound"],
+    "follows.follows": ["bounds", "bound"],
+    "follows.tightest": ["bounds", "l", "r"],
+    "tables.table": ["book", "frame"],
+    "tables.yes_table": ["book", "frame", "atoms"],
+    "deciding.decide": ["table", "valuation"],
+    "deciding.worths_of": ["table", "n"],
+    "reasons.reason": ["table", "valuation"],
+    "reasons.judge_reason": ["table", "value", "reason"],
+    "sights.is_sight": ["book", "sight"],
+    "sights.sight_of": ["book", "world"],
+    "sights.bare": ["book", "frame"],
+    "sights.judge_completion": ["book", "sight", "ask", "pair"],
 }
 CLASSES = {
     "books.Book": {"__init__": ["tree"], "atoms": ["frame"], "policies": ["frame"], "written": ["walk"],
@@ -37,6 +75,7 @@ CLASSES = {
     "places.Places": {"__init__": ["book", "walk"], "__call__": ["at", "letter"]},
     "languages.Language": {"__init__": ["book", "kind", "walk", "end"], "__contains__": ["word"], "__bool__": [],
                            "inside": ["other"]},
+    "deciding.Decider": {"__init__": ["table"], "told": ["truth"]},
 }
 # Objects of the classes, and the attributes that they have when they are created.
 BOOK = Book(read(EXAMPLE))
@@ -44,6 +83,8 @@ OBJECTS = [
     (BOOK, {"tree": tuple, "flattened": tuple, "plan": tuple, "frames": tuple}),
     (Places(BOOK, ("named", "sees")), {"last": tuple, "size": int}),
     (Language(BOOK, "clerk", ("named", "sees"), "paper"), {"least": tuple}),
+    (Decider((("leaf", 0), ("leaf", 1), (0, 0, 1))), {"wants": int, "value": type(None)}),
+    (Decider((("leaf", "all"),)), {"wants": type(None), "value": str}),
 ]
 
 
@@ -65,7 +106,16 @@ class InterfaceTest(unittest.TestCase):
             for name, parameter in inspect.signature(found(path)).parameters.items():
                 if parameter.default is not inspect.Parameter.empty:
                     defaults[path, name] = parameter.default
-        self.assertEqual(defaults, {("worlds.world_of", "numbers"): ()})
+        self.assertEqual(defaults, {("worlds.world_of", "numbers"): (), ("reach.steps_to", "most"): None})
+
+    def test_passed_by_name(self):
+        by_name = [(path, name) for path in FUNCTIONS for name, parameter in inspect.signature(found(path)).parameters.items()
+                   if parameter.kind is inspect.Parameter.KEYWORD_ONLY]
+        self.assertEqual(by_name, [("reach.steps_to", "most")])
+
+    def test_generators(self):
+        generators = [path for path in FUNCTIONS if inspect.isgeneratorfunction(found(path))]
+        self.assertEqual(generators, ["counting.words_of"])
 
     def test_classes(self):
         for path, methods in CLASSES.items():

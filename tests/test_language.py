@@ -31,7 +31,7 @@ BARRED_WORDS = set((
     "NamedTuple TypedDict TYPE_CHECKING abstractmethod"
 ).split())
 # A parameter has the name of a function of its file only where the document's interface names both so.
-SAME_NAMES = {("takes", "machine")}
+SAME_NAMES = {("takes", "machine"), ("judge_reason", "reason")}
 CHANGING = {"append", "clear", "extend", "insert", "pop", "remove", "reverse", "setdefault", "update", "sort", "add", "discard"}
 SPECIAL = {
     "__init__", "__eq__", "__repr__", "__str__", "__len__", "__enter__", "__exit__", "__call__", "__iter__", "__contains__",

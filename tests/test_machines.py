@@ -10,7 +10,7 @@ from leaveledger.machines import machine, takes
 from leaveledger.reading import read
 from tests import chance as by_chance
 from tests.plain import Plain, all_words
-from tests.samples import EXAMPLE, TOWN
+from tests.samples import EXAMPLE, SMALL as SMALL_TEXT, TOWN
 
 BOOK = Book(read(EXAMPLE))
 TOWN_BOOK = Book(read(TOWN))
@@ -18,18 +18,7 @@ IN, GOLD, KEEPS, WEARS = ("in", "team", ()), ("in", "team", ("gold",)), ("keeps"
 SEES = ((((IN, 0), (GOLD, 0), (KEEPS, 1)), ()), 1)
 GILT = ((((IN, 0), (GOLD, 1)), ((IN, 1), (GOLD, 1), (KEEPS, 2)), ()), 2)
 EMPTY = (((),), None)
-# A small book in which words come soon to all that there is.
-SMALL = Book(read("""\
-asker clerk ;
-group team box ;
-thing paper ;
-badge boss ;
-tag gold on team ;
-tie in from clerk team to team box ;
-tie keeps from clerk box to paper boss ;
-never in [gold] to [] ;
-walk deep = in{2} keeps ;
-"""))
+SMALL = Book(read(SMALL_TEXT))
 
 
 def walk_of(text):

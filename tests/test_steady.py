@@ -5,19 +5,35 @@ import random
 import unittest
 
 from leaveledger.answers import answer, stands
+from leaveledger.back import comers
 from leaveledger.books import Book
+from leaveledger.bounds import judge_ring, settle
+from leaveledger.combine import combined, table_of
+from leaveledger.counting import always_passed, count_words, extent, place_of, word_at, words_of
+from leaveledger.deciding import Decider, decide, worths_of
 from leaveledger.deeds import done
 from leaveledger.errors import LeaveError
 from leaveledger.faults import faults
 from leaveledger.flatten import flat
+from leaveledger.follows import follows, opposite, tightest
 from leaveledger.languages import Language
 from leaveledger.letters import is_word, letters
 from leaveledger.machines import machine, takes
+from leaveledger.maps import judge_map
+from leaveledger.parting import machine_parting, parting, path_world
+from leaveledger.peers import judge_peers, peers
 from leaveledger.places import Places
+from leaveledger.reach import reached, steps_to
 from leaveledger.reading import read
+from leaveledger.reasons import judge_reason, reason
+from leaveledger.shortest import shortest
+from leaveledger.shut import judge_shut, shut
+from leaveledger.sights import bare, is_sight, judge_completion, sight_of
+from leaveledger.tables import table, yes_table
 from leaveledger.tokens import tokens_of
 from leaveledger.trees import is_tree
 from leaveledger.walked import walked
+from leaveledger.within import judge_within, within
 from leaveledger.worlds import is_world, row_of, world_of
 from leaveledger.writing import write, write_cond, write_walk
 from tests import chance as by_chance
@@ -34,6 +50,10 @@ ASK = ("ana", "view", "memo", (False,), (), 0)
 SEES, GILT = ("named", "sees"), ("named", "gilt")
 COND = ("or", ("walk", "gilt", "thing"), ("not", ("flag", "inside")))
 TABLE = ("table", ((0, WORD[0], 0), (0, WORD[1], 1), (0, WORD[1], 1)), 1)
+FRAME = ("clerk", "view", "paper")
+BOUNDS = [("a", "b", -3), ("b", "0", 40), ("c", "a", -1)]
+NO_BOUNDS = [*BOUNDS, ("0", "c", -40)]
+RING = (("c", "a", -1), ("a", "b", -3), ("b", "0", 40), ("0", "c", -40))
 PLACES, OTHER_PLACES = Places(BOOK, GILT), Places(BOOK, TABLE)
 LANGUAGE, OTHER_LANGUAGE = Language(BOOK, "clerk", SEES, "paper"), Language(BOOK, "clerk", TABLE, "paper")
 
@@ -65,6 +85,7 @@ def calls():
     for book in (BOOK, OTHER):
         found += [(book.atoms, (("clerk", "view", "paper"),)), (book.policies, (("clerk", "view", "paper"),))]
     found += [(BOOK.written, (GILT,)), (BOOK.written_cond, (COND,))]
+    found += calls_about_words() + calls_about_worlds() + calls_about_numbers()
     found += [(LANGUAGE.__contains__, (WORD,)), (LANGUAGE.__bool__, ()), (LANGUAGE.inside, (OTHER_LANGUAGE,)),
               (OTHER_LANGUAGE.inside, (LANGUAGE,)), (OTHER_LANGUAGE.__contains__, (WORD[:1],))]
     for line, text in LINES:
@@ -73,6 +94,76 @@ def calls():
     for _ in range(10):
         found += [(write_walk, (by_chance.expression(chance, 4),)), (write_cond, (by_chance.cond(chance, 4),))]
         found.append((faults, (by_chance.tree(chance, 3),)))
+    return found
+
+
+def all_words_of(machine, n):
+    return tuple(words_of(machine, n))
+
+
+def fewest_steps_to(book, world, walk, node, most):
+    return steps_to(book, world, walk, node, most=most)
+
+
+def decided(rows, valuation):
+    """What a decider shows on its way."""
+    decider = Decider(rows)
+    shown = [(decider.wants, decider.value)]
+    for _ in range(4):
+        decider.told(decider.wants is not None and valuation[decider.wants])
+        shown.append((decider.wants, decider.value))
+    return tuple(shown)
+
+
+def calls_about_words():
+    """Pairs of a function and its arguments."""
+    found = [(path_world, (BOOK, "clerk", WORD)), (path_world, (BOOK, "clerk", WORD[1:]))]
+    for walk, other in ((SEES, GILT), (GILT, SEES), (SEES, TABLE), (TABLE, TABLE)):
+        least = machine(BOOK, "clerk", walk, "paper")
+        rows = within(BOOK, "clerk", walk, [other], "paper")
+        found += [(parting, (BOOK, "clerk", walk, other, "paper")), (within, (BOOK, "clerk", walk, (other, GILT), "paper")),
+                  (within, (BOOK, "clerk", walk, (other,), "paper")), (judge_within, (BOOK, "clerk", walk, (other,), "paper", rows[1])),
+                  (machine_parting, (least, machine(BOOK, "clerk", other, "paper"))), (table_of, (least,)),
+                  (combined, (BOOK, "clerk", ("both", ("of", walk), ("not", ("of", other))), "paper")), (extent, (least,)),
+                  (count_words, (least, 7)), (word_at, (least, 4, 2)), (place_of, (least, WORD)), (always_passed, (least,)),
+                  (all_words_of, (least, 5)), (table_of, ((((),) * 41, 3),))]
+    return found
+
+
+def calls_about_worlds():
+    """Pairs of a function and its arguments."""
+    found = []
+    for walk in (SEES, GILT, TABLE):
+        for node in ("ana", "red", "memo"):
+            rows = (("ana", (0,)), ("memo", (1,)), ("red", (0, 1)))
+            found += [(reached, (BOOK, WORLD, walk, node)), (steps_to, (BOOK, WORLD, walk, node)), (comers, (BOOK, WORLD, walk, node)),
+                      (fewest_steps_to, (BOOK, WORLD, walk, node, 1)), (shortest, (BOOK, WORLD, walk, node, "memo")),
+                      (shut, (BOOK, WORLD, walk, node, "memo")), (shut, (BOOK, WORLD, walk, node, "ana")),
+                      (judge_shut, (BOOK, WORLD, walk, node, "ana", rows))]
+    pairs = (("ana", "ana"), ("memo", "memo"), ("red", "red"))
+    sight, partial = sight_of(BOOK, WORLD), (*ASK[:3], (None,), (), None)
+    found += [(judge_map, (BOOK, WORLD, WORLD, pairs)), (judge_map, (BOOK, WORLD, (WORLD[0], (), ()), pairs)),
+              (peers, (BOOK, WORLD, "ana", "ana")), (judge_peers, (BOOK, WORLD, "ana", "ana", peers(BOOK, WORLD, "ana", "ana")[1])),
+              (judge_peers, (BOOK, WORLD, "ana", "ana", pairs)), (sight_of, (BOOK, WORLD)), (is_sight, (BOOK, sight)),
+              (is_sight, (OTHER, sight)), (is_sight, (BOOK, WORLD)), (bare, (BOOK, FRAME)),
+              (judge_completion, (BOOK, sight, partial, (WORLD, ASK))), (judge_completion, (BOOK, sight, ASK, (WORLD, partial)))]
+    return found
+
+
+def calls_about_numbers():
+    """Pairs of a function and its arguments, also about tables."""
+    found = [(opposite, (BOUNDS[0],)), (judge_ring, (NO_BOUNDS, RING)), (judge_ring, (BOUNDS, RING))]
+    for bounds in (BOUNDS, NO_BOUNDS, tuple(BOUNDS), []):
+        found += [(settle, (bounds,)), (follows, (bounds, ("c", "b", -4))), (follows, (bounds, ("c", "x", 3))),
+                  (tightest, (bounds, "c", "b")), (tightest, (bounds, "x", "0"))]
+    atoms = BOOK.atoms(FRAME)
+    found += [(table, (BOOK, FRAME)), (yes_table, (BOOK, FRAME, atoms)), (yes_table, (BOOK, FRAME, atoms[::-1])), (table, (BOOK, FRAME[::-1]))]
+    for rows in (table(BOOK, FRAME), yes_table(BOOK, FRAME, atoms)):
+        found.append((worths_of, (rows, 5)))
+        for valuation in ((True, False, True), (False, False, False)):
+            least = reason(rows, valuation)
+            found += [(decide, (rows, valuation)), (decided, (rows, valuation)), (reason, (rows, valuation)),
+                      (judge_reason, (rows, decide(rows, valuation)[0], least)), (judge_reason, (rows, 0, least))]
     return found
 
 
@@ -125,7 +216,7 @@ class SteadyTest(unittest.TestCase):
 
     def test_truths(self):
         for function, arguments in calls():
-            if function.__name__.startswith("is_"):
+            if function.__name__.startswith(("is_", "judge_")):
                 self.assertIn(outcome(function, arguments), (True, False))
                 self.assertIs(type(outcome(function, arguments)), bool)
 
