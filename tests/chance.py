@@ -1,6 +1,7 @@
 """Trees, walks and worlds made by chance, always the same ones for the same seed."""
 
 from leaveledger.errors import BadWorld
+from leaveledger.letters import letters
 from leaveledger.trees import is_tree
 from leaveledger.worlds import world_of
 
@@ -99,6 +100,22 @@ def fitting_table(chance, signs, places, moves):
     """A table with so many moves by these letters between the first places."""
     rows = [(chance.randrange(places), chance.choice(signs), chance.randrange(places)) for _ in range(moves)]
     return ("table", tuple(rows), chance.choice((None, *range(places), *range(places))))
+
+
+def small_walk(chance, book):
+    """A walk for a clerk of the small book, now and then a table."""
+    if chance.random() < 0.3:
+        signs = [letter for standing in (("clerk", ()), ("box", ())) for letter in letters(book, standing)]
+        return fitting_table(chance, signs, 3, chance.randint(2, 9))
+    return fitting_walk(chance, 4, ("in", "keeps"), ("gold",), ("deep",))
+
+
+def town_walk(chance, book):
+    """A walk of the town's book, now and then a table."""
+    if chance.random() < 0.25:
+        standings = (("clerk", ()), ("guest", ()), ("team", ()), ("team", ("gold",)), ("team", ("old",)), ("box", ()), ("box", ("old",)))
+        return fitting_table(chance, [letter for standing in standings for letter in letters(book, standing)], 4, 30)
+    return fitting_walk(chance, 5, ("in", "tops", "keeps"), ("gold", "old"), ("sees", "gilt", "far", "boxed"))
 
 
 def world(chance, book, nodes, links):

@@ -6,7 +6,6 @@ import unittest
 from leaveledger.books import Book
 from leaveledger.combine import combined, table_of
 from leaveledger.errors import LimitError, TooLarge
-from leaveledger.letters import letters
 from leaveledger.machines import machine, takes
 from leaveledger.reading import read
 from leaveledger.trees import is_walk
@@ -112,14 +111,8 @@ class CombinedTest(LeastMachineCheck):
     def test_against_all_words(self):
         chance = random.Random(72)
         plain = Plain(SMALL_BOOK.tree)
-        signs = [letter for standing in (("clerk", ()), ("box", ())) for letter in letters(SMALL_BOOK, standing)]
         for turn in range(150):
-            walks = []
-            for _ in range(chance.randint(1, 4)):
-                if chance.random() < 0.3:
-                    walks.append(by_chance.fitting_table(chance, signs, 3, chance.randint(2, 9)))
-                else:
-                    walks.append(by_chance.fitting_walk(chance, 4, ("in", "keeps"), ("gold",), ("deep",)))
+            walks = [by_chance.small_walk(chance, SMALL_BOOK) for _ in range(chance.randint(1, 4))]
             combination = by_chance_combined(chance, walks, 6)
             end = chance.choice(("paper", "boss"))
             found = self.made(combination, end=end, book=SMALL_BOOK)

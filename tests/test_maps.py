@@ -12,7 +12,7 @@ from tests import chance as by_chance
 from tests.junk import some_variants
 from tests.plainjudges import takes_map
 from tests.samples import EXAMPLE
-from tests.test_reach import BOOK as TOWN_BOOK, WORLD as TOWN_WORLD
+from tests.test_walked import BOOK as TOWN_BOOK, WORLD as TOWN_WORLD
 
 BOOK = Book(read(EXAMPLE))
 NODES = [("ana", "clerk", ()), ("bob", "clerk", ()), ("red", "team", ("gold",)), ("rose", "team", ("gold",)), ("blue", "team", ()),

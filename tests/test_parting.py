@@ -4,7 +4,7 @@ import random
 import unittest
 
 from leaveledger.books import Book
-from leaveledger.letters import is_word, letters
+from leaveledger.letters import is_word
 from leaveledger.machines import machine
 from leaveledger.parting import machine_parting, parting, path_world
 from leaveledger.reading import read
@@ -137,15 +137,9 @@ class PartingTest(unittest.TestCase):
     def test_against_all_words(self):
         chance = random.Random(52)
         plain = Plain(SMALL_BOOK.tree)
-        signs = [letter for standing in (("clerk", ()), ("box", ())) for letter in letters(SMALL_BOOK, standing)]
         seen = {None: 0}
         for turn in range(250):
-            walks = []
-            for _ in range(2):
-                if chance.random() < 0.3:
-                    walks.append(by_chance.fitting_table(chance, signs, 3, chance.randint(2, 9)))
-                else:
-                    walks.append(by_chance.fitting_walk(chance, 4, ("in", "keeps"), ("gold",), ("deep",)))
+            walks = [by_chance.small_walk(chance, SMALL_BOOK) for _ in range(2)]
             end = chance.choice(("paper", "boss"))
             words = all_words(SMALL_BOOK, "clerk", end, 5)
             apart = [word for word in words if plain.has_word(walks[0], word) != plain.has_word(walks[1], word)]

@@ -7,38 +7,16 @@ import unittest
 from leaveledger.back import comers
 from leaveledger.books import Book
 from leaveledger.errors import LimitError, NoName
-from leaveledger.letters import letters
 from leaveledger.reach import reached, steps_to
 from leaveledger.reading import read
 from leaveledger.shortest import shortest
 from leaveledger.walked import walked
 from leaveledger.worlds import world_of
 from tests import chance as by_chance
-from tests.plain import Plain
-from tests.samples import TOWN
+from tests.test_walked import BOOK, NODES, PLAIN, WORLD, walk_of
 
-TREE = read(TOWN)
-BOOK = Book(TREE)
-PLAIN = Plain(TREE)
-NODES = (
-    ("ana", "clerk", ("gold",)), ("bob", "guest", ()), ("red", "team", ("gold",)), ("blue", "team", ()),
-    ("grey", "team", ("old",)), ("case", "box", ("old",)), ("pile", "box", ()), ("memo", "memo", ()),
-    ("sheet", "paper", ("old",)), ("leaf", "paper", ()),
-)
-# Rings: blue and grey; red alone; pile alone.
-LINKS = (
-    ("ana", "in", "blue"), ("ana", "keeps", "leaf"), ("bob", "in", "red"), ("bob", "tops", "pile"), ("blue", "in", "grey"),
-    ("grey", "in", "blue"), ("grey", "in", "case"), ("grey", "keeps", "auditor"), ("blue", "in", "red"), ("red", "in", "red"),
-    ("red", "keeps", "sheet"), ("red", "keeps", "memo"), ("pile", "tops", "pile"), ("pile", "tops", "boss"),
-    ("pile", "tops", "sheet"),
-)
-WORLD = world_of(BOOK, NODES, LINKS)
 STARTS = [name for name, kind, _ in NODES if kind in ("clerk", "guest", "team", "box")]
 ENDS = [name for name, _, _ in NODES] + ["auditor", "boss"]
-
-
-def walk_of(text):
-    return read(f"walk w = {text} ;")[0][2]
 
 
 def paths_from(world, node, most):
@@ -69,13 +47,9 @@ class ReachedTest(unittest.TestCase):
 
     def test_the_same_as_walked(self):
         chance = random.Random(91)
-        signs = [letter for row in NODES[:7] for letter in letters(BOOK, (row[1], row[2] if row[1] in ("team", "box") else ()))]
         for turn in range(60):
             world = WORLD if turn < 20 else by_chance.world(chance, BOOK, NODES, 150)
-            if turn % 4 == 3:
-                walk = by_chance.fitting_table(chance, signs, 4, 25)
-            else:
-                walk = by_chance.fitting_walk(chance, 5, ("in", "tops", "keeps"), ("gold", "old"), ("sees", "gilt", "far", "boxed"))
+            walk = by_chance.town_walk(chance, BOOK)
             for node in STARTS:
                 self.assertEqual(reached(BOOK, world, walk, node), walked(BOOK, world, walk, node), (walk, node))
                 self.assertEqual(reached(BOOK, world, walk, node), PLAIN.walked(world, walk, node))
@@ -168,14 +142,10 @@ class ShortestTest(unittest.TestCase):
 
     def test_against_all_paths(self):
         chance = random.Random(93)
-        signs = [letter for row in NODES[:7] for letter in letters(BOOK, (row[1], row[2] if row[1] in ("team", "box") else ()))]
         seen = {}
         for turn in range(120):
             world = by_chance.world(chance, BOOK, NODES, 150)
-            if turn % 3 == 2:
-                walk = by_chance.fitting_table(chance, signs, 4, 40)
-            else:
-                walk = by_chance.fitting_walk(chance, 5, ("in", "tops", "keeps"), ("gold", "old"), ("sees", "gilt"))
+            walk = by_chance.town_walk(chance, BOOK)
             node = chance.choice(STARTS)
             first = {}
             for path, end in paths_from(world, node, 4):
@@ -229,13 +199,9 @@ class ComersTest(unittest.TestCase):
 
     def test_the_same_as_walked(self):
         chance = random.Random(94)
-        signs = [letter for row in NODES[:7] for letter in letters(BOOK, (row[1], row[2] if row[1] in ("team", "box") else ()))]
         for turn in range(60):
             world = WORLD if turn < 20 else by_chance.world(chance, BOOK, NODES, 150)
-            if turn % 4 == 3:
-                walk = by_chance.fitting_table(chance, signs, 4, 25)
-            else:
-                walk = by_chance.fitting_walk(chance, 5, ("in", "tops", "keeps"), ("gold", "old"), ("sees", "gilt", "far", "boxed"))
+            walk = by_chance.town_walk(chance, BOOK)
             ends = {node: walked(BOOK, world, walk, node) for node in STARTS}
             for end in ENDS:
                 self.assertEqual(comers(BOOK, world, walk, end), tuple(sorted(node for node in STARTS if end in ends[node])))

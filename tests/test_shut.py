@@ -5,7 +5,6 @@ import unittest
 
 from leaveledger.books import Book
 from leaveledger.errors import NoName
-from leaveledger.letters import letters
 from leaveledger.places import Places
 from leaveledger.reading import read
 from leaveledger.shut import judge_shut, shut
@@ -15,7 +14,8 @@ from tests import chance as by_chance
 from tests.junk import some_variants
 from tests.plainjudges import takes_shut
 from tests.samples import EXAMPLE
-from tests.test_reach import BOOK as TOWN_BOOK, ENDS, NODES, STARTS, WORLD as TOWN_WORLD
+from tests.test_reach import ENDS, STARTS
+from tests.test_walked import BOOK as TOWN_BOOK, NODES, WORLD as TOWN_WORLD
 
 BOOK = Book(read(EXAMPLE))
 WORLD = world_of(
@@ -80,14 +80,10 @@ class ShutTest(unittest.TestCase):
 
     def test_by_chance(self):
         chance = random.Random(101)
-        signs = [letter for row in NODES[:7] for letter in letters(TOWN_BOOK, (row[1], row[2] if row[1] in ("team", "box") else ()))]
         seen = {False: 0, True: 0}
         for turn in range(40):
             world = TOWN_WORLD if turn < 10 else by_chance.world(chance, TOWN_BOOK, NODES, 150)
-            if turn % 4 == 3:
-                walk = by_chance.fitting_table(chance, signs, 4, 25)
-            else:
-                walk = by_chance.fitting_walk(chance, 5, ("in", "tops", "keeps"), ("gold", "old"), ("sees", "gilt", "far", "boxed"))
+            walk = by_chance.town_walk(chance, TOWN_BOOK)
             for node in STARTS:
                 for end in ENDS:
                     seen[self.check(walk, node, end, TOWN_BOOK, world)] += 1

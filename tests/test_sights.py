@@ -12,7 +12,7 @@ from tests import chance as by_chance, plainjudges
 from tests.junk import JUNK, some_variants
 from tests.plainjudges import completes
 from tests.samples import EXAMPLE, TOWN
-from tests.test_reach import BOOK as TOWN_BOOK, NODES as TOWN_NODES, WORLD as TOWN_WORLD
+from tests.test_walked import BOOK as TOWN_BOOK, NODES as TOWN_NODES, WORLD as TOWN_WORLD
 
 BOOK = Book(read(EXAMPLE))
 EMPTY = ((), (), (), (), ())

@@ -13,7 +13,7 @@ from leaveledger.tables import table, yes_table
 from tests import chance as by_chance
 from tests.junk import JUNK, same, some_variants
 from tests.samples import EXAMPLE, TOWN
-from tests.test_reach import NODES
+from tests.test_walked import NODES
 
 BOOK = Book(read(EXAMPLE))
 TOWN_BOOK = Book(read(TOWN))

@@ -4,7 +4,6 @@ import random
 import unittest
 
 from leaveledger.books import Book
-from leaveledger.letters import letters
 from leaveledger.parting import parting
 from leaveledger.places import Places
 from leaveledger.reading import read
@@ -107,16 +106,9 @@ class WithinTest(unittest.TestCase):
     def test_against_all_words(self):
         chance = random.Random(61)
         plain = Plain(SMALL_BOOK.tree)
-        signs = [letter for standing in (("clerk", ()), ("box", ())) for letter in letters(SMALL_BOOK, standing)]
         seen = {"within": 0, "beyond": 0}
         for turn in range(200):
-            walks = []
-            for _ in range(chance.randint(1, 4)):
-                if chance.random() < 0.3:
-                    walks.append(by_chance.fitting_table(chance, signs, 3, chance.randint(2, 9)))
-                else:
-                    walks.append(by_chance.fitting_walk(chance, 4, ("in", "keeps"), ("gold",), ("deep",)))
-            walk, *others = walks
+            walk, *others = [by_chance.small_walk(chance, SMALL_BOOK) for _ in range(chance.randint(1, 4))]
             end = chance.choice(("paper", "boss"))
             words = [word for word in all_words(SMALL_BOOK, "clerk", end, 5) if plain.has_word(walk, word)]
             beyond = [word for word in words if not any(plain.has_word(other, word) for other in others)]
