@@ -29,7 +29,8 @@ class BadWorld(LeaveError):
     """A triple breaks a rule of worlds; part is that triple."""
 
     def __init__(self, part):
-        super().__init__(f"no world has {part}")
+        # The part may be anything, also what is nested too deep to be written.
+        super().__init__("a triple breaks a rule of worlds")
         self.part = part
 
 

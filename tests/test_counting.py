@@ -116,6 +116,23 @@ class WordsTest(unittest.TestCase):
                 words = [word for word in all_words(SMALL_BOOK, "clerk", end, 4) if plain.has_word(walk, word)]
                 self.check(machine(SMALL_BOOK, "clerk", walk, end), words, 4)
 
+    def test_several_last_letters(self):
+        chance = random.Random(84)
+        plain = Plain(TOWN_BOOK.tree)
+        for text in ("any*", "tops*", "in? any", "any tops | tops keeps"):
+            walk = read(f"walk w = {text} ;")[0][2]
+            for kind, end in (("guest", "paper"), ("guest", "boss"), ("clerk", "paper")):
+                words = [word for word in all_words(TOWN_BOOK, kind, end, 3) if plain.has_word(walk, word)]
+                self.check(machine(TOWN_BOOK, kind, walk, end), words, 3)
+        for turn in range(30):
+            walk = by_chance.town_walk(chance, TOWN_BOOK)
+            words = [word for word in all_words(TOWN_BOOK, "guest", "boss", 3) if plain.has_word(walk, word)]
+            self.check(machine(TOWN_BOOK, "guest", walk, "boss"), words, 3)
+
+    def test_far_beyond_the_longest_word(self):
+        self.assertEqual(len(list(words_of(FEW, 10 ** 9))), 5)
+        self.assertEqual(list(words_of(EMPTY, 10 ** 9)), [])
+
     def test_one_by_one(self):
         # There are 2 to the 59 words with 60 letters alone.
         words = words_of(SEES, 60)

@@ -1,14 +1,22 @@
-"""The example [60]: its faults, its frame, its atoms, its machine, and its answers."""
+"""The example [60]: its faults, its frame, its atoms, its machine, its words, its answers, and what is told of it."""
 
+import itertools
 import unittest
 
 from leaveledger.answers import answer, stands
+from leaveledger.back import comers
 from leaveledger.books import Book
+from leaveledger.deciding import decide
 from leaveledger.faults import faults
 from leaveledger.languages import Language
 from leaveledger.machines import machine, takes
+from leaveledger.parting import parting
 from leaveledger.reading import read
+from leaveledger.shortest import shortest
+from leaveledger.sights import is_sight, judge_completion
+from leaveledger.tables import table
 from leaveledger.walked import walked
+from leaveledger.within import within
 from leaveledger.worlds import world_of
 from tests.samples import EXAMPLE
 
@@ -48,6 +56,36 @@ class ExampleTest(unittest.TestCase):
         word = (("keeps", "paper", ()),)
         self.assertTrue(word in sees and word not in gilt)
         self.assertIs(takes(sees.least, word), True)
+
+    def test_the_least_word_beyond(self):
+        self.assertEqual(within(BOOK, "clerk", ("named", "sees"), (("named", "gilt"),), "paper"), ("beyond", (("keeps", "paper", ()),)))
+        self.assertEqual(within(BOOK, "clerk", ("named", "gilt"), (("named", "sees"),), "paper")[0], "within")
+        self.assertEqual(parting(BOOK, "clerk", ("named", "gilt"), ("named", "sees"), "paper"), (("keeps", "paper", ()),))
+
+    def test_paths(self):
+        path = (("in", "red"), ("keeps", "memo"))
+        self.assertEqual(shortest(BOOK, WORLD, ("named", "gilt"), "ana", "memo"), path)
+        self.assertIsNone(shortest(BOOK, WORLD, ("named", "gilt"), "bob", "memo"))
+        self.assertEqual(comers(BOOK, WORLD, ("named", "sees"), "memo"), ("ana", "blue", "bob", "red"))
+
+    def test_answers_by_table(self):
+        for name, flag in itertools.product(("ana", "bob"), (False, True)):
+            ask = (name, "view", "memo", (flag,), (), 0)
+            valuation = tuple(stands(BOOK, WORLD, ask, atom) for atom in BOOK.atoms(FRAME))
+            self.assertEqual(decide(table(BOOK, FRAME), valuation)[0], answer(BOOK, WORLD, ask))
+
+    def test_what_is_told_of_bob(self):
+        sight = ((("blue", "team", ()), ("bob", "clerk", ()), ("memo", "paper", ())), (("blue", "keeps", "memo"), ("bob", "in", "blue")),
+                 (), (), ())
+        self.assertIs(is_sight(BOOK, sight), True)
+        ask = ("bob", "view", "memo", (False,), (), 0)
+        more = (WORLD[0], tuple(sorted([*WORLD[1], ("bob", "in", "red")])), ())
+        for world, effect in ((WORLD, "bar"), (more, "let")):
+            self.assertIs(judge_completion(BOOK, sight, ask, (world, ask)), True)
+            self.assertEqual(answer(BOOK, world, ask)[0], effect)
+        closed = (*sight[:2], (("blue", "in"), ("bob", "in")), (), ())
+        self.assertIs(judge_completion(BOOK, closed, ask, (WORLD, ask)), True)
+        self.assertIs(judge_completion(BOOK, closed, ask, (more, ask)), False)
 
     def test_answers(self):
         self.assertEqual(answer(BOOK, WORLD, ("ana", "view", "memo", (False,), (), 0)), ("let", 5, ("p1",), ("log",)))

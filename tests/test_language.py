@@ -224,6 +224,25 @@ class LanguageTest(unittest.TestCase):
                 elif isinstance(node, ast.Subscript) and not isinstance(node.ctx, ast.Load):
                     self.assertNotIn(ast.unparse(node.value), gone_over, place)
 
+    def test_generators(self):
+        """A generator has its name alone, returns no value, and is not used within the package."""
+        functions = [node for _, node in self.each_node(ast.FunctionDef)]
+        generators = [node for node in functions if any(isinstance(part, (ast.Yield, ast.YieldFrom)) for part in ast.walk(node))]
+        names = [node.name for node in generators]
+        self.assertEqual(names, ["words_of"])
+        self.assertEqual([node.name for node in functions if node.name in names], names)
+        for node in generators:
+            self.assertFalse([part for part in ast.walk(node) if isinstance(part, ast.Return) and part.value], node.name)
+        for place, node in self.each_node(ast.Name, ast.Attribute):
+            self.assertNotIn(getattr(node, "id", None) or getattr(node, "attr", None), names, place)
+
+    def test_calls_with_stars(self):
+        """Behind a star in a call stand only names, attributes of names, and lists and tuples of such."""
+        for place, node in self.each_node(ast.Call):
+            for part in [part.value for part in node.args if isinstance(part, ast.Starred)]:
+                plain = part.value if isinstance(part, ast.Attribute) else part
+                self.assertIsInstance(plain, (ast.Name, ast.List, ast.Tuple), place)
+
     def test_operators_change_nothing(self):
         for place, node in self.each_node(ast.ClassDef):
             for method in node.body:

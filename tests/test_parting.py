@@ -43,6 +43,11 @@ class PathWorldTest(unittest.TestCase):
         self.assertEqual(nodes, (("zz0", "clerk", ()), ("zz1", "team", ()), ("zz2", "paper", ())))
         self.assertEqual(numbers, (("zz0", "level", 0), ("zz2", "level", 0), ("zz2", "size", 0)))
 
+    def test_numbers_ascend(self):
+        book = Book(read("asker a; thing t; number z on t; number b on t a; number y on a; tie i from a to t;"))
+        self.assertEqual(path_world(book, "a", (("i", "t", ()),))[2],
+                         (("zz0", "b", 0), ("zz0", "y", 0), ("zz1", "b", 0), ("zz1", "z", 0)))
+
     def test_names_ascend_as_strings(self):
         nodes, links, _ = path_world(BOOK, "clerk", (*[IN] * 10, KEEPS))
         self.assertEqual([node[0] for node in nodes], ["zz0", "zz1", "zz10", "zz11", *[f"zz{at}" for at in range(2, 10)]])

@@ -152,6 +152,19 @@ class JudgeTest(unittest.TestCase):
             self.assertIs(judged(TABLE[:at] + TABLE[at + 1:]), False, at)
         self.assertIs(judged(()), False)
 
+    def test_several_ends_of_one_letter(self):
+        both = ("blue", "grey")
+        table = (("ana", ("ana",)), ("blue", both), ("grey", both), ("red", ("red",)))
+        self.assertIs(judged(table, "ana", "ana"), True)
+        for at in range(len(table)):
+            self.assertIs(judged(table[:at] + table[at + 1:], "ana", "ana"), False, at)
+
+    def test_nodes_that_do_not_ascend(self):
+        # The pairs are not needed, so nothing else is wrong with them.
+        for rivals in (("bob", "ana"), ("ana", "ana"), ["ana"], "ana", ("ana", 0), (("ana",),)):
+            self.assertIs(judged(tuple(sorted((*TABLE, ("cleo", rivals)), key=lambda row: row[0]))), False, rivals)
+        self.assertIs(judged(tuple(sorted((*TABLE, ("cleo", ("ana", "bob")))))), True)
+
     def test_order(self):
         self.assertIs(judged(TABLE[::-1]), False)
         self.assertIs(judged((TABLE[0], *TABLE)), False)

@@ -154,6 +154,15 @@ class SightOfTest(unittest.TestCase):
             tuple(sorted(NUMBERS)),
         ))
 
+    def test_ties_tags_and_numbers_in_any_order(self):
+        book = Book(read("asker a; group g; thing t; tag z on a; tag b on a; number y on a; number c on a; "
+                         "tie j from a g to g t; tie i from g a to t; tie h from g to g;"))
+        world = world_of(book, [("x", "a", ("z",)), ("w", "g", ())], [("x", "j", "w")])
+        self.assertEqual(sight_of(book, world), (
+            (("w", "g", ()), ("x", "a", ())), (("x", "j", "w"),), (("w", "h"), ("w", "i"), ("w", "j"), ("x", "i"), ("x", "j")),
+            (("x", "b", False), ("x", "z", True)), (("x", "c", 0), ("x", "y", 0))))
+        self.assertIs(is_sight(book, sight_of(book, world)), True)
+
     def test_is_a_sight(self):
         chance = random.Random(162)
         for world in (WORLD, TOWN_WORLD, ((), (), ()), *[by_chance.world(chance, TOWN_BOOK, TOWN_NODES, 100) for _ in range(20)]):

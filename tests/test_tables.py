@@ -400,6 +400,15 @@ class JudgeReasonTest(unittest.TestCase):
         self.assertIs(judge_reason(rows, ("let", True, ("p",), ()), ((0, True),)), False)
         self.assertIs(judge_reason(rows, ("none", False, (), ()), ((0, False),)), False)
 
+    def test_values_of_other_forms(self):
+        answer_rows = table(BOOK, FRAME)
+        right = reason(answer_rows, (False, True, False))
+        self.assertIs(judge_reason(answer_rows, NONE, right), True)
+        for value in (None, True, 0, "none", (), ("none",), ("none", 0, ()), ("none", 0, (), (), ()), ("none", "0", (), ()),
+                      ("none", 0, ((),), ()), ("none", 0, None, ())):
+            self.assertIs(judge_reason(answer_rows, value, right), False, value)
+            self.assertIs(judge_reason((("leaf", value),), NONE, ()), False, value)
+
     def test_another_value(self):
         for value in ("z", "", None, 0, (), ("y",), True):
             self.assertIs(judge_reason(ODD, value, ((0, True), (1, True))), False, value)
