@@ -17,6 +17,27 @@ def check_ask(plan, kinds, ask):
         raise BadAsk(PARTS)
 
 
+def check_partial(plan, kinds, ask):
+    """Raise BadAsk for the first part of a partial ask that is told and does not fit."""
+    check_ask(plan, kinds, filled(ask))
+
+
+def filled(ask):
+    """A partial ask in which something that fits stands where nothing is told."""
+    if not isinstance(ask, tuple):
+        return ask
+    return tuple([filled_part(part, told) for part, told in enumerate(ask)])
+
+
+def filled_part(part, told):
+    """The part of an ask that has this number, with something that fits where nothing is told."""
+    if part == 3 and isinstance(told, tuple):
+        return tuple([False if truth is None else truth for truth in told])
+    if part == 4 and isinstance(told, tuple):
+        return tuple([0 if worth is None else worth for worth in told])
+    return 0 if part == 5 and told is None else told
+
+
 def is_fitting(plan, kinds, part, told):
     """Whether something fits as the part of an ask that has this number."""
     if part in (0, 2):

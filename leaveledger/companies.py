@@ -19,6 +19,16 @@ class Company:
         letters = self.alphabet.letters_of(number)
         return [(letter, tuple([column[at] for column in columns])) for at, letter in enumerate(letters)]
 
+    def steps_of(self, standing, ats, sets):
+        """The same for the walks with these numbers, but only for the letters after which the first one has places."""
+        number = self.alphabet.class_of(standing)
+        columns = [self.sets_after(number, at, places) for at, places in zip(ats, sets)]
+        found = []
+        for at, letter in enumerate(self.alphabet.letters_of(number)):
+            if columns[0][at]:
+                found.append((letter, tuple([column[at] for column in columns])))
+        return found
+
     def sets_after(self, number, at, places):
         """The sets where one walk is after each letter of a class, from a set of places."""
         key = (number, at, places)

@@ -78,6 +78,17 @@ def bare(book, frame):
     return (sight, ("zz0", action, "zz1", flags, worths, None))
 
 
+def kinds_in(sight):
+    """The kind of each node of a sight by its name."""
+    return {name: kind for name, kind, _ in sight[0]}
+
+
+def frame_of(sight, ask):
+    """The frame of an ask whose asker and thing are nodes of a sight."""
+    kinds = kinds_in(sight)
+    return (kinds[ask[0]], ask[1], kinds[ask[2]])
+
+
 def judge_completion(book, sight, ask, pair):
     """Whether something is a pair of a world and an ask of which a sight and a partial ask tell a part."""
     if not is_pair(pair) or not is_world_of_any_size(book, pair[0]):

@@ -102,8 +102,10 @@ def cond_uses(cond):
     if word == "tag":
         return [(cond[2], "tag")]
     if word == "walk":
+        # Lines name a walk; a condition that is passed can have the walk itself.
+        paths = [(cond[1], "path")] if isinstance(cond[1], str) else walk_uses(cond[1])
         ends = [] if cond[2] == "thing" else [(cond[2], "badge")]
-        return [(cond[1], "path"), *ends]
+        return [*paths, *ends]
     if word == "atmost":
         return term_uses(cond[1]) + term_uses(cond[2])
     return []

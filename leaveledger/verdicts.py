@@ -32,7 +32,7 @@ def answers_by_valuation(policies, atoms):
 
 def column_of(cond, atoms):
     """For each valuation of some atoms a bit that tells whether a condition written out stands."""
-    whole = (1 << (1 << len(atoms))) - 1
+    whole = whole_column(atoms)
     word = cond[0]
     if word == "always":
         return whole
@@ -45,6 +45,33 @@ def column_of(cond, atoms):
     # So many valuations in a row have the atom False, and then as many True.
     run = 1 << (len(atoms) - 1 - atoms.index(cond))
     return whole // ((1 << run) + 1) << run
+
+
+def whole_column(atoms):
+    """A bit for each valuation of some atoms."""
+    return (1 << (1 << len(atoms))) - 1
+
+
+def yes_column(policies, atoms):
+    """For each valuation of some atoms a bit that tells whether the answer is a yes."""
+    return yes_column_with(policies, atoms, policies)
+
+
+def yes_column_with(policies, atoms, wanted):
+    """The same, but only for a yes to which one of the wanted policies belongs."""
+    whole = whole_column(atoms)
+    found = 0
+    for rank in sorted({policy[2] for policy in policies}):
+        bars = lets = best = 0
+        for policy in [policy for policy in policies if policy[2] == rank]:
+            column = column_of(policy[6], atoms)
+            if policy[0] == "bar":
+                bars = bars | column
+            else:
+                lets = lets | column
+                best = best | (column if policy in wanted else 0)
+        found = (whole ^ bars) & (best | (whole ^ lets) & found)
+    return found
 
 
 def answer_by(held):

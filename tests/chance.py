@@ -208,3 +208,24 @@ def with_lines(chance, plan, ties, tags, walk, atoms):
             kinds, actions = chance.choice((("clerk",), ("clerk", "guest"))), chance.choice((("view",), ("copy", "view")))
             lines.append((word, name, 5, kinds, actions, ("paper",), in_words(chance, part, ("not",), 4), ()))
     return tuple(lines)
+
+
+def deed(chance, book, world):
+    """A deed of any kind, that can be done more often than not."""
+    ties = [line[1] for line in book.plan if line[0] == "tie"]
+    badges = [name for line in book.plan if line[0] == "badge" for name in line[1]]
+    names = [node[0] for node in world[0]] or ["none"]
+    word = chance.choice(("link", "link", "link", "cut", "cut", "tag", "number", "node", "drop"))
+    if word == "link":
+        return (word, chance.choice(names), chance.choice(ties), chance.choice(names + badges))
+    if word == "cut":
+        return (word, *(chance.choice(world[1]) if world[1] else ("none", "none", "none")))
+    if word == "tag":
+        return (word, chance.choice(names), chance.choice([line[1] for line in book.plan if line[0] == "tag"]), chance.random() < 0.5)
+    if word == "number":
+        numbers = [line[1] for line in book.plan if line[0] == "number"]
+        return (word, chance.choice(names), chance.choice(numbers or ["none"]), chance.randint(0, 9))
+    if word == "drop":
+        return (word, chance.choice(names))
+    kinds = [name for line in book.plan if line[0] in ("asker", "group", "thing") for name in line[1]]
+    return (word, chance.choice(("ana", "memo", "red", "zz7", "zz8")), chance.choice(kinds), chance.choice(((), ("gold",), ("old",))), ())

@@ -74,6 +74,46 @@ never in [gold] to [] ;
 walk deep = in{2} keeps ;
 """
 
+# A book with a few of everything, for what is told of its worlds.
+REALM = """\
+asker clerk ;
+group team box ;
+thing paper ;
+badge boss ;
+tag gold on team ;
+tie in from clerk team to team box ;
+tie keeps from clerk team box to paper boss ;
+never in [gold] to [gold] ;
+walk deep = in{2} keeps ;
+tag fine on clerk paper ;
+tag old on clerk ;
+number level on clerk paper ;
+flag inside late ;
+asked amount ;
+action view copy ;
+duty log tell ;
+walk near = in? keeps ;
+walk gilt = in* in[gold] in* keeps ;
+walk all = in* keeps ;
+walk chart = table 0 in team [] 1 | 1 in box [] 2 | 1 in team [] 0 | 2 keeps paper [] 3 final 3 ;
+when calm = ask is inside or asker.level <= thing.level + 2 ;
+let p1 rank 5 clerk may view on paper when by all to thing and not asker is old due log ;
+bar p2 rank 7 clerk may view on paper when by gilt to thing and not thing is fine ;
+let p3 rank 9 clerk may view on paper when by near to boss and @calm due tell ;
+let p4 rank 3 clerk may copy on paper when by deep to thing or by chart to thing due log tell ;
+bar p5 rank 3 clerk may copy on paper when ask.amount <= now - 4 and not by near to thing ;
+"""
+
+# A book in which a word from a clerk to a paper has any number of letters, and nothing else but this number.
+RINGS = """\
+asker clerk ;
+group team ;
+thing paper ;
+action view ;
+tie in from clerk team to team ;
+tie keeps from clerk team to paper ;
+"""
+
 STEP = ("step", "in", ())
 
 # A line of each of the eighteen kinds, its text, and in front of the text nothing else that a line may need.

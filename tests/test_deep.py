@@ -3,17 +3,22 @@
 import unittest
 
 from leaveledger.bounds import judge_ring, settle
+from leaveledger.claimjudge import judge_claim
+from leaveledger.claims import claimed
 from leaveledger.letters import is_word
 from leaveledger.maps import judge_map
+from leaveledger.nevers import judge_never
 from leaveledger.peers import judge_peers
+from leaveledger.realizing import realize
 from leaveledger.reasons import judge_reason
 from leaveledger.shut import judge_shut
-from leaveledger.sights import is_sight, judge_completion, sight_of
+from leaveledger.sights import bare, is_sight, judge_completion, sight_of
+from leaveledger.sure import judge_sure, sure
 from leaveledger.tables import table
 from leaveledger.trees import is_tree
 from leaveledger.within import judge_within
 from leaveledger.worlds import is_world
-from tests import test_maps, test_peers, test_sights, test_within
+from tests import test_claimjudge, test_maps, test_nevers, test_peers, test_sights, test_sure, test_within
 from tests.junk import nested
 
 DEEP = (nested(9), nested(100), nested(100000), nested(100000, True), (0, nested(100000, "x")))
@@ -61,6 +66,20 @@ class DeepTest(unittest.TestCase):
         self.check(judge_ring, bounds, settle(bounds)[1])
         rows = table(test_within.BOOK, ("clerk", "view", "paper"))
         self.check(judge_reason, rows, ("none", 0, (), ()), ((0, False), (1, True)))
+
+    def test_papers_about_all_worlds(self):
+        book, sight, ask, literals = test_nevers.BOOK, test_nevers.SIGHT, test_nevers.ASK, test_nevers.LITERALS
+        for paper in (("tag", 1), ("ring", test_nevers.RING), ("path", 5, test_nevers.PATH)):
+            self.check(judge_never, book, sight, ask, literals, paper)
+        literals = ((test_nevers.by("in[gold] keeps"), True), (test_nevers.by("in keeps"), False))
+        sight, ask = bare(book, test_nevers.FRAME)
+        self.check(judge_never, book, sight, ask, literals, realize(book, sight, ask, literals)[1])
+        case = test_sure.JudgeSureTest
+        papers = sure(test_sure.LITTLE, case.SIGHT, test_sure.BOB)[2]
+        self.check(judge_sure, test_sure.LITTLE, case.SIGHT, test_sure.BOB, False, papers)
+        for books, claim in test_claimjudge.CASES:
+            if claimed(books, test_claimjudge.FRAME, claim)[1]:
+                self.check(judge_claim, books, test_claimjudge.FRAME, claim, claimed(books, test_claimjudge.FRAME, claim)[1])
 
 
 if __name__ == "__main__":

@@ -6,14 +6,17 @@ import unittest
 from leaveledger.answers import answer, stands
 from leaveledger.back import comers
 from leaveledger.books import Book
+from leaveledger.claims import claimed
 from leaveledger.deciding import decide
 from leaveledger.faults import faults
+from leaveledger.grounds import ground
 from leaveledger.languages import Language
 from leaveledger.machines import machine, takes
 from leaveledger.parting import parting
 from leaveledger.reading import read
 from leaveledger.shortest import shortest
 from leaveledger.sights import is_sight, judge_completion
+from leaveledger.sure import sure
 from leaveledger.tables import table
 from leaveledger.walked import walked
 from leaveledger.within import within
@@ -83,9 +86,27 @@ class ExampleTest(unittest.TestCase):
         for world, effect in ((WORLD, "bar"), (more, "let")):
             self.assertIs(judge_completion(BOOK, sight, ask, (world, ask)), True)
             self.assertEqual(answer(BOOK, world, ask)[0], effect)
+        self.assertEqual(sure(BOOK, sight, ask)[0], "open")
         closed = (*sight[:2], (("blue", "in"), ("bob", "in")), (), ())
+        self.assertEqual(sure(BOOK, closed, ask)[:2], ("sure", False))
         self.assertIs(judge_completion(BOOK, closed, ask, (WORLD, ask)), True)
         self.assertIs(judge_completion(BOOK, closed, ask, (more, ask)), False)
+
+    def test_what_is_told_of_ana(self):
+        nodes = (("ana", "clerk", ()), ("memo", "paper", ()), ("red", "team", ("gold",)))
+        links = (("ana", "in", "red"), ("red", "keeps", "memo"))
+        ask = ("ana", "view", "memo", (False,), (), 0)
+        self.assertEqual(sure(BOOK, (nodes, links, (), (), ()), ask)[:2], ("sure", True))
+        self.assertEqual(sure(BOOK, (nodes, links, (), (), ()), ("ana", "view", "memo", (None,), (), None))[:2], ("sure", True))
+        self.assertEqual([sure(BOOK, (nodes, (link,), (), (), ()), ask)[0] for link in links], ["open", "open"])
+        self.assertEqual(ground(BOOK, WORLD, ask), (nodes, links, (), (), ()))
+
+    def test_claims(self):
+        gilt, inside = ("walk", "gilt", "thing"), ("flag", "inside")
+        self.assertEqual(claimed((BOOK,), FRAME, ("only", ("or", gilt, inside)))[0], "holds")
+        world = ((("zz0", "clerk", ()), ("zz1", "paper", ())), (("zz0", "keeps", "zz1"),), ())
+        word, (found, ask) = claimed((BOOK,), FRAME, ("only", gilt))
+        self.assertEqual((word, found, ask[:4]), ("broken", world, ("zz0", "view", "zz1", (True,))))
 
     def test_answers(self):
         self.assertEqual(answer(BOOK, WORLD, ("ana", "view", "memo", (False,), (), 0)), ("let", 5, ("p1",), ("log",)))

@@ -6,6 +6,7 @@ import unittest
 
 from leaveledger.books import Book
 from leaveledger.deciding import Decider
+from leaveledger.keeper import Keeper
 from leaveledger.languages import Language
 from leaveledger.places import Places
 from leaveledger.reading import read
@@ -68,6 +69,15 @@ FUNCTIONS = {
     "sights.sight_of": ["book", "world"],
     "sights.bare": ["book", "frame"],
     "sights.judge_completion": ["book", "sight", "ask", "pair"],
+    "realizing.realize": ["book", "sight", "ask", "literals"],
+    "nevers.judge_never": ["book", "sight", "ask", "literals", "paper"],
+    "sure.sure": ["book", "sight", "ask"],
+    "sure.judge_sure": ["book", "sight", "ask", "yes", "papers"],
+    "grounds.weaker": ["sight"],
+    "grounds.ground": ["book", "world", "ask"],
+    "claims.claimed": ["books", "frame", "claim"],
+    "claimjudge.judge_claim": ["books", "frame", "claim", "papers"],
+    "leastbook.least_book": ["book", "needs"],
 }
 CLASSES = {
     "books.Book": {"__init__": ["tree"], "atoms": ["frame"], "policies": ["frame"], "written": ["walk"],
@@ -76,6 +86,7 @@ CLASSES = {
     "languages.Language": {"__init__": ["book", "kind", "walk", "end"], "__contains__": ["word"], "__bool__": [],
                            "inside": ["other"]},
     "deciding.Decider": {"__init__": ["table"], "told": ["truth"]},
+    "keeper.Keeper": {"__init__": ["book", "world"], "asked": ["ask"], "change": ["deed"], "ground": ["ask"]},
 }
 # Objects of the classes, and the attributes that they have when they are created.
 BOOK = Book(read(EXAMPLE))
@@ -85,6 +96,7 @@ OBJECTS = [
     (Language(BOOK, "clerk", ("named", "sees"), "paper"), {"least": tuple}),
     (Decider((("leaf", 0), ("leaf", 1), (0, 0, 1))), {"wants": int, "value": type(None)}),
     (Decider((("leaf", "all"),)), {"wants": type(None), "value": str}),
+    (Keeper(BOOK, ((), (), ())), {"kept": tuple, "world": tuple}),
 ]
 
 

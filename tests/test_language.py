@@ -215,6 +215,29 @@ class LanguageTest(unittest.TestCase):
             if isinstance(node.ctx, ast.Load) and node.attr not in METHODS | SPECIAL | methods:
                 self.assertIn(node.attr, assigned, place)
 
+    def test_attributes_have_no_names_of_methods(self):
+        barred = set((
+            "items keys values pop update append clear extend insert remove reverse setdefault sort args encode decode hex fromhex format "
+            "as_integer_ratio bit_count conjugate from_bytes is_integer to_bytes"
+        ).split())
+        for place, node in self.each_node(ast.Attribute):
+            if isinstance(node.ctx, ast.Store):
+                self.assertNotIn(node.attr, barred, place)
+        stored = {node.attr for _, node in self.each_node(ast.Attribute) if isinstance(node.ctx, ast.Store)}
+        for place, made in self.each_node(ast.ClassDef):
+            for method in [node for node in made.body if isinstance(node, ast.FunctionDef)]:
+                self.assertNotIn(method.name, stored, place)
+
+    def test_calls_of_the_library(self):
+        """What is imported from the library is only called, by its bare name."""
+        for path in FILES:
+            tree = parsed(path)
+            names = {alias.name for node in tree.body if isinstance(node, ast.ImportFrom) and node.module in LIBRARY for alias in node.names}
+            called = {id(node.func) for node in ast.walk(tree) if isinstance(node, ast.Call)}
+            for node in ast.walk(tree):
+                if isinstance(node, ast.Name) and node.id in names:
+                    self.assertIn(id(node), called, f"{path.name}:{node.lineno}")
+
     def test_what_is_iterated_is_not_changed(self):
         for place, loop in self.each_node(ast.For):
             gone_over = {ast.unparse(node) for node in ast.walk(loop.iter) if isinstance(node, (ast.Name, ast.Attribute))}

@@ -8,6 +8,8 @@ from leaveledger.answers import answer, stands
 from leaveledger.back import comers
 from leaveledger.books import Book
 from leaveledger.bounds import judge_ring, settle
+from leaveledger.claimjudge import judge_claim
+from leaveledger.claims import claimed
 from leaveledger.combine import combined, table_of
 from leaveledger.counting import always_passed, count_words, extent, place_of, word_at, words_of
 from leaveledger.deciding import Decider, decide, worths_of
@@ -16,19 +18,25 @@ from leaveledger.errors import LeaveError
 from leaveledger.faults import faults
 from leaveledger.flatten import flat
 from leaveledger.follows import follows, opposite, tightest
+from leaveledger.grounds import ground, weaker
+from leaveledger.keeper import Keeper
 from leaveledger.languages import Language
+from leaveledger.leastbook import least_book
 from leaveledger.letters import is_word, letters
 from leaveledger.machines import machine, takes
 from leaveledger.maps import judge_map
+from leaveledger.nevers import judge_never
 from leaveledger.parting import machine_parting, parting, path_world
 from leaveledger.peers import judge_peers, peers
 from leaveledger.places import Places
 from leaveledger.reach import reached, steps_to
 from leaveledger.reading import read
+from leaveledger.realizing import realize
 from leaveledger.reasons import judge_reason, reason
 from leaveledger.shortest import shortest
 from leaveledger.shut import judge_shut, shut
 from leaveledger.sights import bare, is_sight, judge_completion, sight_of
+from leaveledger.sure import judge_sure, sure
 from leaveledger.tables import table, yes_table
 from leaveledger.tokens import tokens_of
 from leaveledger.trees import is_tree
@@ -85,7 +93,7 @@ def calls():
     for book in (BOOK, OTHER):
         found += [(book.atoms, (("clerk", "view", "paper"),)), (book.policies, (("clerk", "view", "paper"),))]
     found += [(BOOK.written, (GILT,)), (BOOK.written_cond, (COND,))]
-    found += calls_about_words() + calls_about_worlds() + calls_about_numbers()
+    found += calls_about_words() + calls_about_worlds() + calls_about_numbers() + calls_about_all_worlds()
     found += [(LANGUAGE.__contains__, (WORD,)), (LANGUAGE.__bool__, ()), (LANGUAGE.inside, (OTHER_LANGUAGE,)),
               (OTHER_LANGUAGE.inside, (LANGUAGE,)), (OTHER_LANGUAGE.__contains__, (WORD[:1],))]
     for line, text in LINES:
@@ -167,6 +175,44 @@ def calls_about_numbers():
     return found
 
 
+def kept(book, world, asks, deeds):
+    """What a keeper shows when it is asked, and changes its world, and is asked again."""
+    keeper = Keeper(book, world)
+    shown = [repr(outcome(keeper.asked, (ask,))) for ask in asks]
+    for deed in deeds:
+        shown += [repr(outcome(keeper.change, (deed,))), keeper.kept, keeper.world, *[keeper.ground(ask) for ask in asks]]
+        shown += [repr(outcome(keeper.asked, (ask,))) for ask in asks]
+    return tuple(shown)
+
+
+def calls_about_all_worlds():
+    """Pairs of a function and its arguments."""
+    sight, partial = bare(BOOK, FRAME)
+    whole = sight_of(BOOK, WORLD)
+    sees, gilt, inside = BOOK.atoms(FRAME)[0], ("walk", GILT, "thing"), ("flag", "inside")
+    found = [(weaker, (whole,)), (ground, (BOOK, WORLD, ASK)), (ground, (BOOK, WORLD, ("red", *ASK[1:])))]
+    for told, ask in ((sight, partial), (whole, ASK), (whole, (*ASK[:3], (None,), (), None)), (sight, (*partial[:5], -1))):
+        word, yes, papers = outcome(sure, (BOOK, told, ask)) if ask[5] != -1 else ("sure", True, ())
+        found.append((sure, (BOOK, told, ask)))
+        if ask[5] != -1:
+            found += [(judge_sure, (BOOK, told, ask, truth, papers)) for truth in (True, False)]
+        for literals in (((sees, False), (gilt, True)), [(sees, True), (gilt, False), (inside, True)], ((("atmost", "now", "0", -1), True),), ((inside, True),) * 11):
+            found.append((realize, (BOOK, told, ask, literals)))
+            if ask[5] != -1 and len(literals) < 11:
+                paper = realize(BOOK, told, ask, literals)[1]
+                found += [(judge_never, (BOOK, told, ask, literals, other)) for other in (paper, ("tag", 0), ("none", 1, ()))]
+    for claim in (("never",), ("only", ("or", inside, ("walk", "gilt", "thing"))), ("if", gilt), ("dead", "p2"), ("dead", "p3"), ("brings", "log"), ("only", ("flag", "none"))):
+        for books in ((BOOK,), [BOOK], (BOOK, BOOK), (BOOK, OTHER)):
+            found += [(claimed, (books, FRAME, claim)), (claimed, (books, ("guest", "edit", "paper"), claim))]
+            papers = outcome(claimed, (books, FRAME, claim))
+            if papers[0] in ("holds", "broken"):
+                found.append((judge_claim, (books, FRAME, claim, papers[1])))
+    found += [(claimed, ((BOOK, BOOK), FRAME, ("within",))), (least_book, (BOOK, ())), (least_book, (BOOK, [(FRAME, gilt)])), (least_book, (BOOK, ((FRAME, sees),)))]
+    asks = (ASK, ("ana", "edit", "memo", (True,), (), 4), ("red", *ASK[1:]))
+    found.append((kept, (BOOK, WORLD, asks, (("link", "red", "in", "red"), ("cut", "ana", "in", "red"), ("drop", "bob"), ["drop"], ("drop", "memo")))))
+    return found
+
+
 def outcome(function, arguments):
     """What a call returns, or the error that it raises with its attributes."""
     try:
@@ -187,11 +233,12 @@ class SteadyTest(unittest.TestCase):
                 self.assertEqual(outcome(*rows[at]), first[at])
 
     def test_arguments_stay(self):
-        kept = [BOOK, OTHER, LANGUAGE, OTHER_LANGUAGE]
+        own = [BOOK, OTHER, LANGUAGE, OTHER_LANGUAGE]
         for function, arguments in calls():
-            before = [copy.deepcopy(part) for part in arguments if part not in kept]
+            parts = [part for part in arguments if part not in own and not (isinstance(part, (tuple, list)) and part and part[0] in own)]
+            before = [copy.deepcopy(part) for part in parts]
             outcome(function, arguments)
-            self.assertEqual([part for part in arguments if part not in kept], before)
+            self.assertEqual(parts, before)
 
     def test_books_stay(self):
         before = [copy.deepcopy(vars(book)) for book in (BOOK, OTHER)]
