@@ -4,12 +4,12 @@ from leaveledger.asks import check_ask
 from leaveledger.plans import Plan
 from leaveledger.policies import atoms_of, policies_of
 from leaveledger.verdicts import answer_of, holds
-from leaveledger.walked import walked
+from leaveledger.walked import Terrain
 
 
 def stands(book, world, ask, cond):
     """Whether a condition of the book, or an atom, stands for an ask in a world; raises BadAsk."""
-    asking = Asking(book, world, ask)
+    asking = Asking(Terrain(book, world), ask)
     written = book.written_cond(cond)
     atoms = atoms_of(written)
     return holds(written, atoms, asking.valuation(atoms))
@@ -17,21 +17,20 @@ def stands(book, world, ask, cond):
 
 def answer(book, world, ask):
     """The answer to an ask in a world; raises BadAsk."""
-    asking = Asking(book, world, ask)
+    asking = Asking(Terrain(book, world), ask)
     frame = asking.frame()
     atoms = book.atoms(frame)
     return answer_of(policies_of(book.flattened, frame), atoms, asking.valuation(atoms))
 
 
 class Asking:
-    """An ask that fits, in its world."""
+    """An ask that fits, in its world; raises BadAsk for another one."""
 
-    def __init__(self, book, world, ask):
-        plan = Plan(book.plan)
-        self.kinds = {name: kind for name, kind, _ in world[0]}
+    def __init__(self, terrain, ask):
+        plan = Plan(terrain.book.plan)
+        self.kinds = {name: kind for name, kind, _ in terrain.world[0]}
         check_ask(plan, self.kinds, ask)
-        self.book = book
-        self.world = world
+        self.terrain = terrain
         self.ask = ask
         self.flags = {flag: truth for flag, truth in zip(plan.listed("flag"), ask[3])}
         self.worths = {f"ask.{asked}": worth for asked, worth in zip(plan.listed("asked"), ask[4])}
@@ -39,14 +38,14 @@ class Asking:
         self.worths["0"] = 0
         self.tags = {}
         for owner, name in (("asker", ask[0]), ("thing", ask[2])):
-            self.learn(owner, name)
+            self.learn(owner, name, terrain.world)
 
-    def learn(self, owner, name):
+    def learn(self, owner, name, world):
         """Take in the tags and the numbers of the asker or the thing."""
-        for node in self.world[0]:
+        for node in world[0]:
             if node[0] == name:
                 self.tags[owner] = node[2]
-        for node, number, worth in self.world[2]:
+        for node, number, worth in world[2]:
             if node == name:
                 self.worths[f"{owner}.{number}"] = worth
 
@@ -68,4 +67,4 @@ class Asking:
         if word == "atmost":
             return self.worths[atom[1]] <= self.worths[atom[2]] + atom[3]
         end = self.ask[2] if atom[2] == "thing" else atom[2]
-        return end in walked(self.book, self.world, atom[1], self.ask[0])
+        return end in self.terrain.ends_of(atom[1], self.ask[0])

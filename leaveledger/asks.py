@@ -8,13 +8,18 @@ PARTS = 6
 
 def check_ask(plan, kinds, ask):
     """Raise BadAsk for the first part of an ask that does not fit; kinds has the kind of each node by its name."""
+    check_parts(plan, kinds, ask, PARTS)
+
+
+def check_parts(plan, kinds, ask, many):
+    """The same for an ask that has just so many parts."""
     if not isinstance(ask, tuple):
         raise BadAsk(0)
-    for part in range(PARTS):
+    for part in range(many):
         if part >= len(ask) or not is_fitting(plan, kinds, part, ask[part]):
             raise BadAsk(part)
-    if len(ask) > PARTS:
-        raise BadAsk(PARTS)
+    if len(ask) > many:
+        raise BadAsk(many)
 
 
 def check_partial(plan, kinds, ask):

@@ -15,7 +15,6 @@ class Beginnings:
         standing, sets = (kind, ()), tuple([(0,) for _ in walks])
         self.states = [(standing, sets), None]
         self.numbers = {self.key_of(standing, sets): 0}
-        self.takes_rest = is_combined(combination, [False for _ in walks])
 
     def state_rows(self):
         """For each state the pairs of a letter and the state behind it; FINAL is the state of whole words."""
@@ -33,9 +32,13 @@ class Beginnings:
                 truths = [self.company.has_last(at, places) for at, places in enumerate(after)]
                 if is_combined(self.combination, truths):
                     found.append((letter, FINAL))
-            elif self.company.leads_to_group(letter) and (self.takes_rest or any(after)):
+            elif self.company.leads_to_group(letter) and self.can_go_on(after):
                 found.append((letter, self.state_of(letter[1:], after)))
         return found
+
+    def can_go_on(self, sets):
+        """Whether words that go on from sets of places may be words of the combination."""
+        return chance_of(self.combination, [len(places) > 0 for places in sets]) is not False
 
     def key_of(self, standing, sets):
         """What standings with the same letters have in common, and the sets of places."""
@@ -59,3 +62,17 @@ def is_combined(combination, truths):
         return not is_combined(combination[1], truths)
     parts = [is_combined(part, truths) for part in combination[1:]]
     return all(parts) if word == "both" else any(parts)
+
+
+def chance_of(combination, alive):
+    """Whether a word is one of a combination of walks of which some cannot have it: None if both may be."""
+    word = combination[0]
+    if word == "of":
+        return None if alive[combination[1]] else False
+    parts = [chance_of(part, alive) for part in combination[1:]]
+    if word == "not":
+        return None if parts[0] is None else not parts[0]
+    settling = word == "either"
+    if settling in parts:
+        return settling
+    return None if None in parts else not settling

@@ -9,7 +9,7 @@ FRESH_NAMES = 1000
 def completion(outlook, truths, ways):
     """The world and the ask in which atoms have these truths, with the least worths; raises TooMany. Ways are pairs of
     an atom's number and a way to fulfil its walk, for all walks that are fulfilled, but by no told path."""
-    rows = further_rows(outlook, ways)
+    rows = list(further_rows(outlook, ways).values())
     groups = [group for row in rows for group in row[0]]
     links = [link for row in rows for link in row[1]]
     given = Given(outlook, truths)
@@ -22,19 +22,25 @@ def completion(outlook, truths, ways):
 
 
 def further_rows(outlook, ways):
-    """The groups and the links of the row of each way, those of equal ways once; raises TooMany."""
-    different = {(name, word, outlook.end_of(number)): True for number, (_, name, word) in ways}
+    """The groups and the links of the row of each way, by what it is; raises TooMany."""
+    different = {row_of_way(outlook, pair): True for pair in ways}
     if len(outlook.sight[0]) + sum([len(word) - 1 for _, word, _ in different]) > MOST_NODES:
         raise TooMany("node")
     told = {node[0]: True for node in outlook.sight[0]}
     free = [name for name in [f"zz{at}" for at in range(FRESH_NAMES)] if name not in told]
-    found = []
+    found = {}
     at = 0
     for name, word, end in different:
         names = free[at:at + len(word) - 1]
         at += len(names)
-        found.append(further_row(name, word, names, end))
+        found[(name, word, end)] = further_row(name, word, names, end)
     return found
+
+
+def row_of_way(outlook, pair):
+    """From which node a way leads with which word to which end; equal ones have one row."""
+    number, (_, name, word) = pair
+    return (name, word, outlook.end_of(number))
 
 
 def further_row(name, word, names, end):

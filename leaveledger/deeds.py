@@ -18,9 +18,14 @@ def done(book, world, deed):
 
 def is_deed(deed):
     """Whether something begins with the word of a deed and has as many parts as such a one."""
+    return len(deed) == LENGTHS[deed[0]] if word_of(deed) in LENGTHS else False
+
+
+def word_of(deed):
+    """The word with which something begins that may be a deed; an empty string for what is none."""
     if not isinstance(deed, tuple) or len(deed) == 0 or not isinstance(deed[0], str):
-        return False
-    return deed[0] in LENGTHS and len(deed) == LENGTHS[deed[0]]
+        return ""
+    return deed[0]
 
 
 def node_of(world, name):

@@ -14,6 +14,8 @@ class Pairs:
                 names[end] = True
         self.names = sorted(names)
         self.numbers = {name: at for at, name in enumerate(self.names)}
+        self.walks = []
+        self.kept_rows = []
         self.links = []
         for start in graph.links:
             for letter, end in graph.links_of(start):
@@ -21,7 +23,10 @@ class Pairs:
 
     def ends(self, walk, name):
         """The ascending tuple of the ends to which an expression leads from a node."""
-        found = self.rows_of(walk)[self.numbers[name]]
+        if walk not in self.walks:
+            self.walks.append(walk)
+            self.kept_rows.append(self.rows_of(walk))
+        found = self.kept_rows[self.walks.index(walk)][self.numbers[name]]
         return tuple([other for at, other in enumerate(self.names) if found >> at & 1])
 
     def rows_of(self, walk):

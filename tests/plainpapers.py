@@ -232,3 +232,68 @@ def takes_sure(book, sight, ask, yes, papers):
 def takes_claim(books, frame, claim, papers):
     atoms = claim_atoms(books, frame, claim)
     return covers(books[0], *bare(books[0], frame), atoms, papers, lambda valuation: breaks(books, frame, claim, atoms, valuation))
+
+
+def link_choices(atoms):
+    """The pairs of truths that each atom can have in a double valuation."""
+    return [((False, False), (False, True), (True, True)) if atom[0] == "walk" else ((False, False), (True, True)) for atom in atoms]
+
+
+def breaks_link_claim(book, frame, claim, atoms, row):
+    before, after = [is_yes(book, frame, atoms, [pair[at] for pair in row]) for at in (0, 1)]
+    return before and not after if claim[0] == "keeps" else after and not before
+
+
+def takes_link_claim(book, frame, claim, papers):
+    atoms = list(book.atoms(frame))
+    choices = link_choices(atoms)
+    if type(papers) is not tuple or not all(is_row(pair, tuple, tuple) for pair in papers):
+        return False
+    for part, paper in papers:
+        if not all(is_row(row, int, bool, bool) and 0 <= row[0] < len(atoms) and row[1:] in choices[row[0]] for row in part):
+            return False
+        if not ascends([row[0] for row in part]) or len(set(row[0] for row in part)) != len(part):
+            return False
+        if not takes_link_paper(book, frame, claim[1], atoms, part, paper):
+            return False
+    for row in itertools.product(*choices):
+        if breaks_link_claim(book, frame, claim, atoms, row):
+            if not any(all(row[number] == (first, second) for number, first, second in part) for part, _ in papers):
+                return False
+    return True
+
+
+def takes_link_paper(book, frame, ties, atoms, part, paper):
+    sight, ask = bare(book, frame)
+    firsts = [(atoms[number], first) for number, first, _ in part]
+    if is_row(paper, str, tuple) and paper[0] == "ring":
+        return takes_never(book, sight, ask, firsts, paper)
+    if not is_row(paper, str, int, tuple) or not 0 <= paper[1] < len(part):
+        return False
+    number, first, second = part[paper[1]]
+    if paper[0] == "none":
+        return first and atoms[number][0] == "walk" and takes_never(book, sight, ask, firsts, paper)
+    if paper[0] != "turn" or first or not second or atoms[number][0] != "walk":
+        return False
+    seconds = [(atoms[number], second) for number, _, second in part]
+    walks = [atoms[number][1], *rivals_of(seconds, paper[1])]
+    return turns_hold(book, frame, ties, walks, end_of(sight, ask, atoms[number])[1], paper[2])
+
+
+def turns_hold(book, frame, ties, walks, goal, rows):
+    if not all(type(row) is tuple and len(row) == 5 and type(row[2]) is bool for row in rows):
+        return False
+    if not all(are_rows(book, walks, (row[:2] + row[3:],)) for row in rows) or not ascends(rows) or len(set(rows)) != len(rows):
+        return False
+    if (frame[0], (), False, (0,), ((0,),) * (len(walks) - 1)) not in rows:
+        return False
+    places = [Places(book, walk) for walk in walks]
+    for kind, marks, seen, at, others in rows:
+        for letter in letters(book, (kind, marks)):
+            sets = [one(part, letter) for one, part in zip(places, (at, *others))]
+            after = (*letter[1:], seen or letter[0] in ties, sets[0], tuple(sets[1:]))
+            if letter[1] in kinds_of(book, "group") and sets[0] != () and after not in rows:
+                return False
+            if letter[1] == goal and after[2] and wins(places, sets):
+                return False
+    return True

@@ -240,3 +240,35 @@ def chained(part, deep, *, word="not"):
     for _ in range(deep - 1):
         part = (word, part)
     return part
+
+# A book for houses: with gates, with comparisons with now, and with bars.
+HOUSE = """\
+asker clerk guest ;
+group team ;
+thing paper door ;
+badge boss ;
+tag gold on team ;
+tag old on clerk paper ;
+number level on clerk guest paper ;
+flag inside ;
+asked amount ;
+action view edit admit ;
+duty log ;
+tie in from clerk guest team to team ;
+tie keeps from clerk guest team to paper door boss ;
+tie owns from clerk to paper ;
+walk sees = in* keeps ;
+walk boss1 = in keeps ;
+role both = edit view ;
+gate in by admit on hall ;
+gate in by edit on desk ;
+gate node by admit on desk ;
+gate rule by edit on rules ;
+gate tag by view on memo ;
+let p1 rank 5 clerk guest may view on paper when by sees to thing and now <= asker.level + 20 due log ;
+bar p2 rank 7 guest may @both on paper when asker.level <= now - 9 and ask is inside ;
+let p3 rank 3 clerk may admit on door when not asker is old ;
+let p4 rank 4 clerk may edit on paper door when by sees to thing or asker.level <= now - 15 ;
+bar p5 rank 4 clerk may view edit on paper when asker is old and now <= thing.level + 6 ;
+let p6 rank 2 guest may admit on door when by boss1 to boss and ask.amount <= 0 + 3 ;
+"""

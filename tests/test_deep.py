@@ -5,6 +5,8 @@ import unittest
 from leaveledger.bounds import judge_ring, settle
 from leaveledger.claimjudge import judge_claim
 from leaveledger.claims import claimed
+from leaveledger.growing import link_claim
+from leaveledger.growjudge import judge_link_claim
 from leaveledger.letters import is_word
 from leaveledger.maps import judge_map
 from leaveledger.nevers import judge_never
@@ -18,7 +20,7 @@ from leaveledger.tables import table
 from leaveledger.trees import is_tree
 from leaveledger.within import judge_within
 from leaveledger.worlds import is_world
-from tests import test_claimjudge, test_maps, test_nevers, test_peers, test_sights, test_sure, test_within
+from tests import test_claimjudge, test_growjudge, test_maps, test_nevers, test_peers, test_sights, test_sure, test_within
 from tests.junk import nested
 
 DEEP = (nested(9), nested(100), nested(100000), nested(100000, True), (0, nested(100000, "x")))
@@ -80,6 +82,10 @@ class DeepTest(unittest.TestCase):
         for books, claim in test_claimjudge.CASES:
             if claimed(books, test_claimjudge.FRAME, claim)[1]:
                 self.check(judge_claim, books, test_claimjudge.FRAME, claim, claimed(books, test_claimjudge.FRAME, claim)[1])
+
+    def test_papers_about_further_links(self):
+        for book, claim in test_growjudge.CASES[:3]:
+            self.check(judge_link_claim, book, test_growjudge.FRAME, claim, link_claim(book, test_growjudge.FRAME, claim)[1])
 
 
 if __name__ == "__main__":

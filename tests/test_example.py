@@ -10,6 +10,7 @@ from leaveledger.claims import claimed
 from leaveledger.deciding import decide
 from leaveledger.faults import faults
 from leaveledger.grounds import ground
+from leaveledger.growing import link_claim
 from leaveledger.languages import Language
 from leaveledger.machines import machine, takes
 from leaveledger.parting import parting
@@ -107,6 +108,10 @@ class ExampleTest(unittest.TestCase):
         world = ((("zz0", "clerk", ()), ("zz1", "paper", ())), (("zz0", "keeps", "zz1"),), ())
         word, (found, ask) = claimed((BOOK,), FRAME, ("only", gilt))
         self.assertEqual((word, found, ask[:4]), ("broken", world, ("zz0", "view", "zz1", (True,))))
+
+    def test_further_links(self):
+        self.assertEqual(link_claim(BOOK, FRAME, ("keeps", ("in", "keeps")))[0], "holds")
+        self.assertEqual(link_claim(BOOK, FRAME, ("safe", ("in", "keeps")))[0], "broken")
 
     def test_answers(self):
         self.assertEqual(answer(BOOK, WORLD, ("ana", "view", "memo", (False,), (), 0)), ("let", 5, ("p1",), ("log",)))

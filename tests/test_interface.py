@@ -6,10 +6,12 @@ import unittest
 
 from leaveledger.books import Book
 from leaveledger.deciding import Decider
+from leaveledger.house import House
 from leaveledger.keeper import Keeper
 from leaveledger.languages import Language
 from leaveledger.places import Places
 from leaveledger.reading import read
+from leaveledger.watch import Watch
 from tests.samples import EXAMPLE
 
 FUNCTIONS = {
@@ -78,6 +80,14 @@ FUNCTIONS = {
     "claims.claimed": ["books", "frame", "claim"],
     "claimjudge.judge_claim": ["books", "frame", "claim", "papers"],
     "leastbook.least_book": ["book", "needs"],
+    "narrowing.narrowed": ["book", "frame", "policy", "cond", "name"],
+    "growing.link_claim": ["book", "frame", "claim"],
+    "growjudge.judge_link_claim": ["book", "frame", "claim", "papers"],
+    "queries.what": ["book", "world", "asker", "action", "kind", "flags", "numbers", "now"],
+    "queries.who": ["book", "world", "thing", "action", "kind", "flags", "numbers", "now"],
+    "ledger.audit": ["book", "world", "now", "rows"],
+    "ledger.replayed": ["book", "world", "now", "rows"],
+    "ledger.tried": ["house", "rows"],
 }
 CLASSES = {
     "books.Book": {"__init__": ["tree"], "atoms": ["frame"], "policies": ["frame"], "written": ["walk"],
@@ -87,6 +97,11 @@ CLASSES = {
                            "inside": ["other"]},
     "deciding.Decider": {"__init__": ["table"], "told": ["truth"]},
     "keeper.Keeper": {"__init__": ["book", "world"], "asked": ["ask"], "change": ["deed"], "ground": ["ask"]},
+    "watch.Watch": {"__init__": ["book", "world"], "follow": ["asker"], "ends": ["asker", "name"], "note": ["ask"], "change": ["deed"],
+                    "tried": ["deeds"]},
+    "store.Store": {"__init__": ["book", "world"], "sought": ["kind", "query"], "many": ["kind", "query"]},
+    "house.House": {"__init__": ["book", "world", "now"], "may": ["ask"], "do": ["deed"], "turns": ["ask"],
+                    "hung": ["name", "action", "flags", "numbers"], "trial": [], "enter": ["by", "deed"]},
 }
 # Objects of the classes, and the attributes that they have when they are created.
 BOOK = Book(read(EXAMPLE))
@@ -97,6 +112,8 @@ OBJECTS = [
     (Decider((("leaf", 0), ("leaf", 1), (0, 0, 1))), {"wants": int, "value": type(None)}),
     (Decider((("leaf", "all"),)), {"wants": type(None), "value": str}),
     (Keeper(BOOK, ((), (), ())), {"kept": tuple, "world": tuple}),
+    (Watch(BOOK, ((), (), ())), {"world": tuple, "asks": tuple, "askers": tuple}),
+    (House(BOOK, ((), (), ())), {"state": tuple, "rows": tuple, "now": int}),
 ]
 
 
@@ -119,6 +136,7 @@ class InterfaceTest(unittest.TestCase):
                 if parameter.default is not inspect.Parameter.empty:
                     defaults[path, name] = parameter.default
         self.assertEqual(defaults, {("worlds.world_of", "numbers"): (), ("reach.steps_to", "most"): None})
+        self.assertEqual(inspect.signature(House).parameters["now"].default, 0)
 
     def test_passed_by_name(self):
         by_name = [(path, name) for path in FUNCTIONS for name, parameter in inspect.signature(found(path)).parameters.items()

@@ -19,16 +19,22 @@ from leaveledger.faults import faults
 from leaveledger.flatten import flat
 from leaveledger.follows import follows, opposite, tightest
 from leaveledger.grounds import ground, weaker
+from leaveledger.growing import link_claim
+from leaveledger.growjudge import judge_link_claim
+from leaveledger.house import House
 from leaveledger.keeper import Keeper
 from leaveledger.languages import Language
 from leaveledger.leastbook import least_book
+from leaveledger.ledger import audit, replayed, tried
 from leaveledger.letters import is_word, letters
 from leaveledger.machines import machine, takes
 from leaveledger.maps import judge_map
+from leaveledger.narrowing import narrowed
 from leaveledger.nevers import judge_never
 from leaveledger.parting import machine_parting, parting, path_world
 from leaveledger.peers import judge_peers, peers
 from leaveledger.places import Places
+from leaveledger.queries import what, who
 from leaveledger.reach import reached, steps_to
 from leaveledger.reading import read
 from leaveledger.realizing import realize
@@ -36,11 +42,13 @@ from leaveledger.reasons import judge_reason, reason
 from leaveledger.shortest import shortest
 from leaveledger.shut import judge_shut, shut
 from leaveledger.sights import bare, is_sight, judge_completion, sight_of
+from leaveledger.store import Store
 from leaveledger.sure import judge_sure, sure
 from leaveledger.tables import table, yes_table
 from leaveledger.tokens import tokens_of
 from leaveledger.trees import is_tree
 from leaveledger.walked import walked
+from leaveledger.watch import Watch
 from leaveledger.within import judge_within, within
 from leaveledger.worlds import is_world, row_of, world_of
 from leaveledger.writing import write, write_cond, write_walk
@@ -93,7 +101,7 @@ def calls():
     for book in (BOOK, OTHER):
         found += [(book.atoms, (("clerk", "view", "paper"),)), (book.policies, (("clerk", "view", "paper"),))]
     found += [(BOOK.written, (GILT,)), (BOOK.written_cond, (COND,))]
-    found += calls_about_words() + calls_about_worlds() + calls_about_numbers() + calls_about_all_worlds()
+    found += calls_about_words() + calls_about_worlds() + calls_about_numbers() + calls_about_all_worlds() + calls_about_changes()
     found += [(LANGUAGE.__contains__, (WORD,)), (LANGUAGE.__bool__, ()), (LANGUAGE.inside, (OTHER_LANGUAGE,)),
               (OTHER_LANGUAGE.inside, (LANGUAGE,)), (OTHER_LANGUAGE.__contains__, (WORD[:1],))]
     for line, text in LINES:
@@ -210,6 +218,60 @@ def calls_about_all_worlds():
     found += [(claimed, ((BOOK, BOOK), FRAME, ("within",))), (least_book, (BOOK, ())), (least_book, (BOOK, [(FRAME, gilt)])), (least_book, (BOOK, ((FRAME, sees),)))]
     asks = (ASK, ("ana", "edit", "memo", (True,), (), 4), ("red", *ASK[1:]))
     found.append((kept, (BOOK, WORLD, asks, (("link", "red", "in", "red"), ("cut", "ana", "in", "red"), ("drop", "bob"), ["drop"], ("drop", "memo")))))
+    return found
+
+
+def watched(book, world, askers, asks, deeds):
+    """What a watch shows while its world changes."""
+    watch = Watch(book, world)
+    shown = [repr(outcome(watch.follow, (asker,))) for asker in askers] + [repr(outcome(watch.note, (ask,))) for ask in asks]
+    for deed in deeds:
+        shown += [repr(outcome(watch.tried, (deeds[:2],))), repr(outcome(watch.change, (deed,))), watch.world, watch.asks, watch.askers]
+        shown += [repr(outcome(watch.ends, (asker, name))) for asker in askers for name in ("sees", "none")]
+    return tuple(shown)
+
+
+def sought(book, world, queries):
+    """What a store returns for queries."""
+    store = Store(book, world)
+    return tuple((store.sought(kind, query), store.many(kind, query)) for kind, query in queries)
+
+
+def housed(book, world, now, rows, asks):
+    """What a house shows while rows are entered, and after a trial."""
+    house = House(book, world, now)
+    shown = []
+    for row in rows:
+        with house.trial():
+            shown += [repr(outcome(house.enter, row)), house.state, house.rows]
+        shown += [repr(outcome(tried, (house, (row, row)))), repr(outcome(house.do, row[1:])), repr(outcome(house.enter, row)), house.state, house.rows, house.now]
+        shown += [repr(outcome(call, (ask,))) for ask in asks for call in (house.may, house.turns)]
+        shown.append(repr(outcome(house.hung, ("l1", "view", (False,), ()))))
+    return tuple(shown)
+
+
+def calls_about_changes():
+    """Pairs of a function and its arguments."""
+    found = []
+    gilt, inside = ("walk", "gilt", "thing"), ("flag", "inside")
+    for cond in (gilt, ("or", gilt, inside), ("flag", "none"), ("tag", "asker", "gold")):
+        found += [(narrowed, (BOOK, FRAME, policy, cond, name)) for policy, name in (("p1", "thin"), ("p1", "sees"), ("p2", "thin"))]
+    for claim in (("keeps", ("in", "keeps")), ("safe", ("in",)), ("safe", ("wears",)), ("safe", ("none",))):
+        found.append((link_claim, (BOOK, FRAME, claim)))
+        papers = outcome(link_claim, (BOOK, FRAME, claim))
+        if papers[0] in ("holds", "broken"):
+            found.append((judge_link_claim, (BOOK, FRAME, claim, papers[1])))
+    deeds = (("link", "red", "in", "red"), ("cut", "ana", "in", "red"), ("drop", "bob"), ("node", "bob", "clerk", (), ()), ("link", "bob", "keeps", "memo"), ("drop", "memo"))
+    found.append((watched, (BOOK, WORLD, ("ana", "bob", "red"), (ASK, ("bob", *ASK[1:]), (*ASK[:5], -1)), deeds)))
+    for flags in ((False,), (True,), (0,)):
+        for asker in ("ana", "red"):
+            found += [(what, (BOOK, WORLD, asker, "view", "paper", flags, (), 3)), (who, (BOOK, WORLD, "memo" if asker == "ana" else asker, "view", "clerk", flags, (), 3))]
+    found.append((sought, (BOOK, WORLD, (("clerk", ("all",)), ("team", ("tag", "gold")), ("paper", ("not", ("names", ("leaf", "memo")))), ("guest", ("none",))))))
+    rows = (("ana", ("node", "bob", "clerk", (), ())), ("ana", ("lend", "l1", "ana", "bob", ("view",), None, 9, 0)), ("ana", ("tick", 4)), ("red", ("tick", 4)), ("bob", ("back", "l1")),
+            ("ana", ("enact", ("let", "p3", 9, ("clerk",), ("view",), ("paper",), ("always",), ()))), ("ana", ("repeal", "p1")), ("bob", ("drop", "ana")))
+    found.append((housed, (BOOK, WORLD, 2, rows, (ASK[:5], ("bob", *ASK[1:5]), ("red", *ASK[1:5])))))
+    for part in (rows, rows[:3], list(rows[:3]), ()):
+        found += [(audit, (BOOK, WORLD, 2, part)), (replayed, (BOOK, WORLD, 2, part))]
     return found
 
 
