@@ -70,8 +70,7 @@ class Given:
     def tagged(self, node):
         """A told node with its tags."""
         name, kind, marks = node
-        if self.plan.sort_of(kind) == "group":
-            return node
+        # Of groups no tags are told besides their marks.
         tags = [tag for tag in self.plan.tags_of(kind) if self.true_tags.get((name, tag), False)]
         return (name, kind, (*marks, *sorted(tags)))
 

@@ -58,7 +58,7 @@ def with_table(tree, line, name, table):
 def widest(book, frame, line, cond):
     """The least machine of the words of a policy's walk for which a condition stands for each yes that they make."""
     walk = book.written(("named", first_part(line[6])[1]))
-    topic, columns = rivals_needed(book, frame, line, book.written_cond(cond))
+    topic, columns = rivals_needed(book, frame, book.written_cond(cond))
     rivals = [number for number in topic.walks if any([column >> number & 1 for column in columns])]
     places = {number: at + 1 for at, number in enumerate(rivals)}
     parts = []
@@ -69,29 +69,20 @@ def widest(book, frame, line, cond):
     return least_machine(states.state_rows(), FINAL)
 
 
-def rivals_needed(book, frame, line, cond):
+def rivals_needed(book, frame, cond):
     """The atoms, and the least columns with a bit for each atom's walk such that a word of the policy's walk must be a
-    word of one of these walks: where all of them are not fulfilled, the word would make a yes without the condition."""
-    policies = []
-    atoms = []
-    for policy in policies_of(book.flattened, frame):
-        policies.append(without_walk(policy) if policy[1] == line[1] else policy)
-        atoms = merged(atoms, atoms_of(policies[-1][6]))
-    topic = Topic(book, merged(atoms, atoms_of(cond)))
-    column = yes_column(policies, topic.rows) & (whole_column(topic.rows) ^ column_of(cond, topic.rows))
+    word of one of these walks: where all of them are not fulfilled, it would make a yes without the condition."""
+    topic = Topic(book, merged(book.atoms(frame), atoms_of(cond)))
+    yes = yes_column(policies_of(book.flattened, frame), topic.rows)
+    column = yes & (whole_column(topic.rows) ^ column_of(cond, topic.rows))
     sight, ask = bare(book, frame)
     sieve = Sieve(Outlook(topic, sight, ask), ())
     found = {}
     for row in valuations_in(column, len(topic.rows)):
+        # Without the policy the claim holds, so its walk is fulfilled in each of these that can be.
         if sieve.lets(row, row):
             found[false_paths(topic, row)] = True
     return (topic, [column for column in found if not any([is_less(other, column) for other in found])])
-
-
-def without_walk(policy):
-    """A policy that does not ask for its walk any more."""
-    cond = policy[6][2] if policy[6][0] == "and" else ("always",)
-    return (*policy[:6], cond, policy[7])
 
 
 def false_paths(topic, row):

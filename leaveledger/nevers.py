@@ -58,6 +58,6 @@ def are_closed_rows(outlook, ats, told):
     """Whether rows of an atom's walk and its rivals show that there is no way to fulfil it and none of these."""
     rows = outlook.rows_of(ats)
     found = with_seen(told)
-    if found is None or not rows.are_rows(found) or outlook.is_told(ats[0]):
+    if not rows.are_rows(found) or outlook.is_told(ats[0]):
         return False
     return rows.are_closed(found, outlook.steps_near(rows))

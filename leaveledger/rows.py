@@ -29,9 +29,9 @@ class Rows:
         """The row behind a letter, with the sets of places after it."""
         return (letter[1], letter[2], seen or letter[0] in self.ties, sets[0], sets[1:])
 
-    def is_needed(self, letter, row):
-        """Whether a paper needs the row to which a letter leads."""
-        return row[3] != () and self.company.leads_to_group(letter)
+    def is_needed(self, letter):
+        """Whether a paper needs the row to which a letter leads; the walk has places there."""
+        return self.company.leads_to_group(letter)
 
     def is_beyond(self, letter, row):
         """Whether the words with this last letter lead to the end, are words of the walk, and of none of its rivals."""
@@ -46,7 +46,7 @@ class Rows:
         waiting = list(steps)
         while waiting:
             letter, row = waiting.pop()
-            if self.is_needed(letter, row) and row not in found:
+            if self.is_needed(letter) and row not in found:
                 found[row] = True
                 waiting.extend(self.after(row))
         return sorted(found)
@@ -61,7 +61,7 @@ class Rows:
     def are_held(self, known, steps):
         """Whether steps lead only to known rows, and to no end that a paper must not have."""
         for letter, row in steps:
-            if self.is_beyond(letter, row) or self.is_needed(letter, row) and row not in known:
+            if self.is_beyond(letter, row) or self.is_needed(letter) and row not in known:
                 return False
         return True
 

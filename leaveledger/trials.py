@@ -6,10 +6,8 @@ class Trial:
 
     def __init__(self, house):
         self.house = house
-        self.keep()
 
-    def keep(self):
-        """Keep what the house is now."""
+    def __enter__(self):
         self.book = self.house.book
         self.world = self.house.world
         self.now = self.house.now
@@ -17,9 +15,6 @@ class Trial:
         self.rows = self.house.rows
         self.state = self.house.state
         self.terrain = self.house.terrain
-
-    def __enter__(self):
-        self.keep()
         return self.house
 
     def __exit__(self, kind, value, trace):

@@ -17,7 +17,7 @@ def within(book, kind, walk, walks, end):
         for letter, after in rows.after(row):
             if rows.is_beyond(letter, after):
                 return ("beyond", (*trail_to(came, row), letter))
-            if after not in came and rows.is_needed(letter, after):
+            if after not in came and rows.is_needed(letter):
                 came[after] = (row, letter)
                 waiting.append(after)
         at += 1
@@ -28,7 +28,7 @@ def judge_within(book, kind, walk, walks, end, table):
     """Whether a table shows that each word of a walk is one of the other walks."""
     rows = rows_of(book, walk, walks, end)
     told = with_seen(table)
-    if told is None or not rows.are_rows(told):
+    if not rows.are_rows(told):
         return False
     return rows.first(kind, True) in told and rows.are_closed(told, ())
 

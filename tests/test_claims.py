@@ -141,6 +141,16 @@ class ClaimsTest(unittest.TestCase):
         self.holds(("brings", "log"), True, (more,))
         self.holds(("brings", "tell"), False, (more,))
 
+        self.holds(("brings", "log"), False, (book_of("let p rank 1 clerk may view on paper when always due tell ;"),))
+        self.holds(("brings", "tell"), True, (book_of("let p rank 1 clerk may view on paper when always due log tell ;"),))
+
+    def test_several_rivals_in_any_order(self):
+        """A paper has its rivals in the order of the part, whichever is needed first."""
+        for names in (("gilt", "plain"), ("plain", "gilt")):
+            book = book_of(f"""walk one = in keeps ; walk gilt = in[gold] keeps ; walk plain = in[-gold] keeps ;
+                let p rank 1 clerk may view on paper when by one to thing and not by {names[0]} to thing and not by {names[1]} to thing ;""")
+            self.assertEqual([part for part, _ in self.holds(("never",), True, (book,))], [((0, True), (1, False), (2, False))])
+
     def test_two_books(self):
         first = book_of("walk w = in keeps ; let p rank 1 clerk may view on paper when by w to thing ;")
         second = book_of("walk w = in? keeps ; role r = copy view ; let q rank 3 clerk may @r on paper when by w to thing ;")
@@ -175,8 +185,11 @@ class ClaimsTest(unittest.TestCase):
 
     def test_the_least_walking(self):
         for text, steps in (("by in1 to thing or by in2 to thing and by keep to boss", 2), ("by in2 to thing and not by in1 to thing", 3), ("by in1 to thing and by keep to thing", 3),
-                            ("not by in1 to thing", 0), ("by in1 to thing and by in1 to boss", 4), ("by all to thing and not by keep to thing and not by in1 to boss", 2)):
-            book = book_of(f"""walk keep = keeps ; walk in1 = in keeps ; walk in2 = in in keeps ; walk all = in* keeps ;
+                            ("not by in1 to thing", 0), ("by in1 to thing and by in1 to boss", 4), ("by all to thing and not by keep to thing and not by in1 to boss", 2),
+                            ("by in3 to boss or by keep to thing and by keep to boss and by all to thing", 3),
+                            ("by in2 to boss or by keep to thing and by keep to boss and by all to thing", 3),
+                            ("by in1 to boss or by keep to thing and by keep to boss and by all to thing", 2)):
+            book = book_of(f"""walk keep = keeps ; walk in1 = in keeps ; walk in2 = in in keeps ; walk all = in* keeps ; walk in3 = in in in keeps ;
                 let p rank 1 clerk may view on paper when {text} ;""")
             world, ask = self.holds(("never",), False, (book,))
             atoms = claim_atoms((book,), FRAME, ("never",))

@@ -99,6 +99,13 @@ class GroundTest(unittest.TestCase):
         self.assertEqual(found[3], (("bob", "old", True),))
         self.assertEqual(found[4], ())
 
+    def test_links_of_rows_told_whole_and_others(self):
+        book = Book(read("""asker clerk ; group team ; thing paper ; badge boss ; action view ; tie aa from clerk to paper ; tie in from clerk team to team ;
+            tie keeps from team to boss ; walk direct = aa ; walk one = in keeps ; let p rank 1 clerk may view on paper when by direct to thing and not by one to boss ;"""))
+        world = world_of(book, [("ana", "clerk", ()), ("memo", "paper", ()), ("red", "team", ()), ("blue", "team", ())], [("ana", "in", "red"), ("ana", "aa", "memo"), ("red", "in", "blue"), ("blue", "keeps", "boss")])
+        found = self.found(world, ("ana", "view", "memo", (), (), 0), book)
+        self.assertEqual(found[1:3], ((("ana", "aa", "memo"), ("ana", "in", "red")), (("ana", "in"), ("red", "keeps"))))
+
     def test_another_ground_may_do(self):
         world = world_of(BOOK, [("ana", "clerk", ()), ("memo", "paper", ("fine",)), ("blue", "team", ()), ("grey", "team", ())],
                          [("ana", "in", "blue"), ("ana", "in", "grey"), ("blue", "keeps", "memo"), ("grey", "keeps", "memo")])

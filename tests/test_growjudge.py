@@ -64,6 +64,24 @@ class JudgeLinkClaimTest(unittest.TestCase):
             self.assertIs(self.judged((none, late, other), book, claim), False, other)
             self.assertIs(self.judged((none, late, turn, other), book, claim), False, other)
 
+    def test_truths_that_atoms_cannot_have(self):
+        book = book_of(WALKS + "let p rank 1 clerk may view on paper when by one to thing and not by all to thing and ask is late ;")
+        claim = ("safe", ("in", "keeps"))
+        papers = self.papers(book, claim)
+        self.assertIs(self.judged(papers, book, claim), True)
+        for part, (word, at, rows) in papers:
+            for first, second in ((True, True), (False, False)):
+                self.assertIs(self.judged((*papers, ((*part, (2, first, second)), (word, at, rows))), book, claim), True)
+            for first, second in ((False, True), (True, False)):
+                self.assertIs(self.judged((*papers, ((*part, (2, first, second)), (word, at, rows))), book, claim), False)
+        # A walk that is fulfilled by further links alone is no rival of itself.
+        part = ((0, False, True), (1, False, False))
+        rows = tuple(sorted([("team", marks, (1,), ((1,), (1,))) for marks in ((), ("gold",))] + [("box", (), (1,), ((1,), (1,)))]))
+        self.assertIs(self.judged((*papers, (part, ("none", 0, rows))), book, claim), False)
+        part = ((0, False, True),)
+        rows = tuple((kind, marks, places, (places,)) for kind, marks, places, _ in rows)
+        self.assertIs(self.judged((*papers, (part, ("none", 0, rows))), book, claim), False)
+
     def test_seen(self):
         """Only rows behind a letter with one of the ties may not lead to the end."""
         book = book_of(WALKS + "let p rank 1 clerk may view on paper when by one to thing ;")

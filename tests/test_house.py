@@ -357,6 +357,11 @@ class HungTest(unittest.TestCase):
         self.assertEqual(house.hung("l0", "view", *CALM), (("gus", "rules"),))
         self.assertEqual(house.hung("l0", "edit", *CALM), ())
 
+    def test_several_askers(self):
+        house = house_with(lent("l1", "ana", "ivy", depth=1), lent("l2", "ivy", "gus"))
+        house.do(("link", "red", "keeps", "rules"))
+        self.assertEqual(house.hung("l1", "view", *CALM), (("gus", "memo"), ("gus", "rules"), ("ivy", "memo"), ("ivy", "rules")))
+
     def test_before_and_behind_a_loan_is_taken_back(self):
         house = house_with(lent("l1", "ana", "bob", depth=1), lent("l2", "bob", "gus"))
         found = house.hung("l1", "view", *CALM)
@@ -381,9 +386,11 @@ class HungTest(unittest.TestCase):
                 self.assertEqual(caught.exception.name, name)
         for parts, at in ((("none", *CALM), 1), ((None, None, None), 1), (("view", (), (0,)), 3), (("view", (0,), (0,)), 3), (("view", [False], None), 3), (("view", (False,), ()), 4),
                           (("view", (False,), (True,)), 4), (("view", (False,), (10000,)), 4), (("view", (False,), [0]), 4)):
-            with self.assertRaises(BadAsk) as caught:
-                house.hung("l1", *parts)
-            self.assertEqual(caught.exception.part, at)
+            alone = house_with(lent("l1", "ana", "bob"), world=world_of(BOOK, NODES[:2], ()))
+            for other in (house, alone):
+                with self.assertRaises(BadAsk) as caught:
+                    other.hung("l1", *parts)
+                self.assertEqual(caught.exception.part, at)
 
 
 class TrialTest(unittest.TestCase):

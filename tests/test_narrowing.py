@@ -173,6 +173,14 @@ class NarrowedTest(unittest.TestCase):
         with self.assertRaises(BadClaim):
             narrowed(full, FRAME, "p0", ("or", GILT, ONE), "thin")
 
+    def test_the_order_of_errors(self):
+        full = Book((*BOOK.tree, *[("role", f"r{at}", ("view",)) for at in range(60 - len(BOOK.tree))]))
+        bad, unmet, good = ("flag", "none"), GILT, ("or", GILT, ONE)
+        for book, policy, cond, name, error in ((full, "p1", bad, "all", BadClaim), (full, "p0", good, "all", BadClaim), (full, "p1", unmet, "all", BadTree), (BOOK, "p1", bad, "all", BadClaim),
+                                                (BOOK, "p0", good, "all", BadClaim), (BOOK, "p1", unmet, "all", NotLet), (BOOK, "p1", unmet, "thin", Unmet)):
+            with self.assertRaises(error):
+                narrowed(book, FRAME, policy, cond, name)
+
     def test_too_many_atoms(self):
         def cond(many):
             found = ("not", LATE)

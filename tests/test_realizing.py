@@ -257,6 +257,24 @@ class RealizeTest(unittest.TestCase):
             self.assertEqual(len(world[0]), 5 + groups, text)
             self.assertNotIn("zz0", [name for name, _, _ in world[0] if name not in [node[0] for node in sight[0]]])
 
+    def test_rivals_where_a_told_path_has_led(self):
+        """What is read behind a told path is read from the places where each walk is there."""
+        ask = ("ana", "view", "memo", (None, None), (None,), None)
+        sight = sight_with((("blue", "team", ()),), (("ana", "in", "blue"),), (("ana", "in"), ("ana", "keeps"), ("blue", "in")))
+        self.check(((by("(keeps | in) keeps"), True), (by("in keeps"), False)), "none", sight, ask)
+        self.check(((by("(keeps | in) keeps"), True), (by("keeps keeps | keeps"), False)), "world", sight, ask)
+        self.check(((by("(keeps | in) keeps"), True), (by("keeps"), False), (by("keeps keeps | in keeps"), False)), "none", sight, ask)
+        self.check(((by("(keeps | in) keeps"), True), (by("keeps in keeps"), False), (by("keeps | in"), False)), "world", sight, ask)
+
+    def test_tags_and_numbers_in_the_order_of_worlds(self):
+        book = Book(read("asker clerk ; thing paper ; tag z on clerk paper ; tag b on clerk ; number y on paper clerk ; number c on clerk ; action view ;"
+                         "flag p ; flag a ; asked s ; asked d ;"))
+        sight, ask = bare(book, FRAME)
+        literals = ((("tag", "asker", "z"), True), (("tag", "asker", "b"), True), (("flag", "a"), True), (("atmost", "now", "ask.d", -2), True), (("atmost", "0", "asker.c", -1), True))
+        word, (world, full) = self.found(sight, ask, literals, book)
+        self.assertEqual(world, ((("zz0", "clerk", ("b", "z")), ("zz1", "paper", ())), (), (("zz0", "c", 1), ("zz0", "y", 0), ("zz1", "y", 0))))
+        self.assertEqual(full, ("zz0", "view", "zz1", (False, True), (0, 2), 0))
+
     def test_further_names_are_free(self):
         nodes = tuple((f"zz{at}", "team", ()) for at in (0, 1, 3))
         ask = ("ana", "view", "memo", (None, None), (None,), None)
@@ -271,9 +289,10 @@ class RealizeTest(unittest.TestCase):
                 with self.assertRaises(BadAsk) as caught:
                     realize(BOOK, sight, (*ask[:at], part, *ask[at + 1:]), literals)
                 self.assertEqual(caught.exception.part, at)
-        with self.assertRaises(BadAsk) as caught:
-            realize(BOOK, sight, (*ask[:3], (1, True), (-1,), -1), ())
-        self.assertEqual(caught.exception.part, 3)
+        for other, at in (((*ask[:3], (1, True), (-1,), -1), 3), (list(ask), 0), (None, 0), ((), 0), (ask[:5], 5), ((*ask, 0), 6), ((*ask, None), 6)):
+            with self.assertRaises(BadAsk) as caught:
+                realize(BOOK, sight, other, ())
+            self.assertEqual(caught.exception.part, at)
 
     def test_too_many_atoms(self):
         sight, ask = bare(BOOK, FRAME)

@@ -90,6 +90,13 @@ class SureTest(unittest.TestCase):
         numbers, rows = (("ana", "level", 4), ("memo", "level", 1)), (("ana", "in"), ("ana", "keeps"), ("pile", "keeps"))
         self.assertIs(self.outcome(sight_with(nodes, links, rows, numbers=numbers), FULL), False)
 
+    def test_rivals_where_a_told_path_has_led(self):
+        book = Book(read(REALM.split("let p1")[0] + """walk a = (keeps | in) keeps ; walk b = in keeps ; walk c = keeps ;
+            let p rank 1 clerk may view on paper when by a to thing and not by b to thing ; let q rank 1 clerk may copy on paper when by a to thing and not by c to thing ;"""))
+        sight = sight_with((("blue", "team", ()),), (("ana", "in", "blue"),), (("ana", "in"), ("ana", "keeps"), ("blue", "in")))
+        self.assertIs(self.outcome(sight, ASK, book), False)
+        self.assertIsNone(self.outcome(sight, ("ana", "copy", *ASK[2:]), book))
+
     def test_frames_without_policies(self):
         for frame in (("guest", "view", "paper"), ("clerk", "edit", "paper")):
             sight, ask = bare(LITTLE, frame)

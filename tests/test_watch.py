@@ -57,11 +57,12 @@ class WatchTest(unittest.TestCase):
         self.assertEqual([watch.ends("bob", name) for name in ("sees", "gilt")], [("memo",), ()])
 
     def test_only_things_and_badges_are_ends(self):
-        book = Book(read(EXAMPLE.split("let p1")[0] + "walk far = any* ; walk chart = table 0 wears auditor [] 1 | 0 in team [] 1 final 1 ; walk none = table final - ;"))
+        book = Book(read(EXAMPLE.split("let p1")[0] + """walk far = any* ; walk chart = table 0 wears auditor [] 1 | 0 in team [] 1 final 1 ; walk none = table final - ;
+            walk odd = in keeps keeps | wears wears | in wears keeps ; walk bad = table 0 wears auditor [] 1 | 0 in team [] 2 | 2 keeps paper [] 3 final 2 ;"""))
         world = world_of(book, LITTLE_WORLD[0], [*LITTLE_WORLD[1], ("bob", "wears", "auditor"), ("red", "wears", "auditor")])
         watch = Watch(book, world)
         watch.follow("bob")
-        self.assertEqual([watch.ends("bob", name) for name in ("far", "chart", "none", "sees")], [("auditor", "memo"), ("auditor",), (), ("memo",)])
+        self.assertEqual([watch.ends("bob", name) for name in ("far", "chart", "none", "sees", "odd", "bad")], [("auditor", "memo"), ("auditor",), (), ("memo",), (), ()])
         self.assertEqual(watch.change(("link", "bob", "in", "red")), ((("bob", "gilt", "memo"),), (), ()))
 
     def test_ends_that_come_and_go(self):
