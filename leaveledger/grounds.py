@@ -28,11 +28,11 @@ def ground(book, world, ask):
     is_yes = answer(book, world, ask)[0] == "let"
     sight = sight_of(book, world)
     frame = frame_of(sight, ask)
-    judge = Settler(Topic(book, book.atoms(frame)), ask, outcome_rows(book, frame, not is_yes))
-    sight = near_sight(judge.outlook_of(sight))
+    settler = Settler(Topic(book, book.atoms(frame)), ask, outcome_rows(book, frame, not is_yes))
+    sight = near_sight(settler.outlook_of(sight))
     # What is needed when more is told is needed when less is told, so each part is gone through once.
     for at in (CLOSED, LINKS, TAGS, NUMBERS):
-        sight = judge.lessened(sight, at)
+        sight = settler.lessened(sight, at)
     return with_own_nodes(sight, ask)
 
 

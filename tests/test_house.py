@@ -525,6 +525,30 @@ class ByChanceTest(unittest.TestCase):
         self.assertTrue(len(seen) == 11, seen)
         self.assertTrue(len(found) >= 7 and min(found.values()) > 2, found)
 
+    def test_chains_by_chance(self):
+        chance = random.Random(342)
+        names = ("ana", "bob", "cleo", "gus", "ivy")
+        seen = {}
+        for turn in range(30):
+            house, plain = House(BOOK, WORLD), PlainHouse(BOOK, WORLD)
+            for name in chance.sample(("a", "b", "bb", "c", "d", "e"), chance.randint(3, 6)):
+                loan = lent(name, *chance.sample(names, 2), thing=chance.choice((None, None, None, "memo")), until=chance.randint(1, 30), depth=chance.randint(0, 4))
+                house.do(("lend", *loan))
+                plain.do(("lend", *loan))
+            for now in (0, 6):
+                if now:
+                    house.do(("tick", now))
+                    plain.do(("tick", now))
+                for name in names:
+                    found = house.may(viewing(name))
+                    self.assertEqual(found, plain.may(viewing(name)), (name, house.state))
+                    seen[len(found[1]) if found[0] == "lent" else found[0]] = True
+                    if turn < 8:
+                        self.assertEqual(house.turns(viewing(name)), plain.turns(viewing(name), 40))
+                for loan in plain.loans:
+                    self.assertEqual(house.hung(loan[0], "view", *CALM), plain.hung(loan[0], "view", *CALM))
+        self.assertEqual(set(seen), {1, 2, 3, "own", "barred", "none"})
+
     def check_asks(self, chance, house, plain, found):
         askers, things = plain.sorts("asker"), plain.sorts("thing")
         if not askers or not things or len(plain.loans) > 5:

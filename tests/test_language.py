@@ -238,6 +238,15 @@ class LanguageTest(unittest.TestCase):
                 if isinstance(node, ast.Name) and node.id in names:
                     self.assertIn(id(node), called, f"{path.name}:{node.lineno}")
 
+    def test_behind_blocks_attributes_are_given_back(self):
+        """The rows of `__exit__` only give attributes what an attribute or a name has."""
+        for place, node in self.each_node(ast.FunctionDef):
+            if node.name == "__exit__":
+                for row in node.body:
+                    self.assertIsInstance(row, ast.Assign, place)
+                    self.assertIsInstance(row.value, (ast.Attribute, ast.Name), place)
+                    self.assertTrue(all(isinstance(target, (ast.Attribute, ast.Name)) for target in row.targets), place)
+
     def test_what_is_iterated_is_not_changed(self):
         for place, loop in self.each_node(ast.For):
             gone_over = {ast.unparse(node) for node in ast.walk(loop.iter) if isinstance(node, (ast.Name, ast.Attribute))}
